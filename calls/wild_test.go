@@ -164,6 +164,12 @@ func TestText(t *testing.T) {
 		text.ParseAddr(s)
 		text.Parse(s)
 	}
+	for _, b := range byteLists() {
+		for _, s := range []string{string(b), "::" + string(b), string(b) + "/" + string(b), "::/" + string(b), "1.2.3." + string(b)} {
+			text.ParseAddr(s)
+			text.Parse(s)
+		}
+	}
 }
 
 func TestWire(t *testing.T) {
