@@ -172,15 +172,31 @@ func TestText(t *testing.T) {
 	}
 }
 
-func TestWire(t *testing.T) {
-	for _, x := range routes() {
-		wire.Put(nil, x.P)
-		wire.PutRoute(nil, x)
-		wire.Good(x)
+// wireBytes are lists that begin as a prefix's bytes may, or nearly, and end at any place.
+func wireBytes() [][]byte {
+	l := byteLists()
+	for _, kind := range []byte{0, 4, 5, 6, 255} {
+		for _, n := range []byte{0, 1, 7, 8, 9, 31, 32, 33, 127, 128, 129, 255} {
+			for size := range 21 {
+				l = append(l, append([]byte{kind, n}, make([]byte, size)...), append([]byte{kind, n}, bytes.Repeat([]byte{255}, size)...))
+			}
+		}
 	}
+	return append(l, bytes.Repeat([]byte{4, 0, 0, 1}, 5000), bytes.Repeat([]byte{6, 4}, 5000))
+}
+
+func TestWire(t *testing.T) {
 	wire.PutAll(nil)
 	wire.PutAll(routes())
-	for _, b := range byteLists() {
+	for _, x := range routes() {
+		wire.Good(x)
+		wire.PutAll([]api.Route{x})
+		for _, b := range [][]byte{nil, {}, {4}, make([]byte, 3, 64)} {
+			wire.Put(b, x.P)
+			wire.PutRoute(b, x)
+		}
+	}
+	for _, b := range wireBytes() {
 		wire.Put(b, api.Prefix{})
 		wire.PutRoute(b, api.Route{})
 		wire.Get(b)
