@@ -216,8 +216,14 @@ func TestTrie(t *testing.T) {
 				x.Under(p)
 				x.Inside(p)
 			}
-			for _, p := range prefixes() {
+			for i, p := range prefixes() { // while less and less is there
+				x.Above(p)
+				x.Under(p)
+				x.Inside(p)
+				x.Longest(addrs[i%len(addrs)])
 				x.Del(p)
+				x.Del(p)
+				x.Get(p)
 			}
 			x.Len()
 			x.Nodes()
