@@ -233,18 +233,32 @@ func TestTrie(t *testing.T) {
 }
 
 func TestRib(t *testing.T) {
-	for _, r := range ribs() {
-		for _, x := range routes() {
-			r.Add(x.P, x.Hop)
-			r.Longest(x.P.A)
-			r.Governs(x.P)
-			r.Inside(x.P)
-		}
-		r.Dump()
-		r.Hops()
-		r.Size()
-		for _, x := range routes() {
-			r.Withdraw(x.P)
+	l := ribs()
+	for _, n := range ints {
+		l = append(l, rib.New(n, api.MaxHop), rib.New(api.MaxRoutes, n))
+	}
+	for _, r := range l {
+		for range 2 {
+			for i, x := range routes() {
+				r.Add(x.P, x.Hop)
+				r.Add(x.P, ints[i/2%len(ints)])
+				r.Longest(x.P.A)
+				r.Governs(x.P)
+				r.Inside(x.P)
+			}
+			r.Dump()
+			r.Hops()
+			r.Size()
+			for i, x := range routes() { // while less and less is there
+				r.Withdraw(x.P)
+				r.Withdraw(x.P)
+				r.Longest(addrs[i%len(addrs)])
+				r.Governs(x.P)
+				r.Inside(x.P)
+			}
+			r.Dump()
+			r.Hops()
+			r.Size()
 		}
 	}
 }

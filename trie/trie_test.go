@@ -1,7 +1,6 @@
 package trie
 
 import (
-	"cmp"
 	"fmt"
 	"maps"
 	"math"
@@ -10,67 +9,13 @@ import (
 	"testing"
 
 	"kedge/api"
+	"kedge/onpaper"
 	"kedge/text"
 )
 
 // The tests hold the package against prefixes written out by hand, and against a model: a map of what is there, whose keys are held against each other as digits written out as text, straight from the fields of an address.
 
 const all = math.MaxUint64
-
-func width(v6 bool) int {
-	if v6 {
-		return 128
-	}
-	return 32
-}
-
-// written are the digits that were written out before: the model asks for the same ones again and again.
-var written = map[[2]uint64]string{}
-
-// digits are all 128 places of an address, those that a short one does not have among them.
-func digits(a api.Addr) string {
-	w := [2]uint64{a.Hi, a.Lo}
-	if written[w] == "" {
-		written[w] = fmt.Sprintf("%064b%064b", a.Hi, a.Lo)
-	}
-	return written[w]
-}
-
-func kind(v6 bool) string {
-	if v6 {
-		return "6:"
-	}
-	return "4:"
-}
-
-// key is a prefix's kind and digits: one covers another one, if its key is the beginning of the other's.
-func key(p api.Prefix) string { return kind(p.A.V6) + digits(p.A)[:p.N] }
-
-// whole is the key of all digits that an address has.
-func whole(a api.Addr) string { return kind(a.V6) + digits(a)[:width(a.V6)] }
-
-func mayBe(p api.Prefix) bool {
-	return p.N >= 0 && p.N <= width(p.A.V6) && !strings.Contains(digits(p.A)[p.N:], "1")
-}
-
-// cut is the prefix of the first n digits of these words; n is 0 to the width.
-func cut(hi, lo uint64, n int, v6 bool) api.Prefix {
-	p := api.Prefix{A: api.Addr{V6: v6}, N: n}
-	for i, d := range digits(api.Addr{Hi: hi, Lo: lo})[:n] {
-		if d == '1' && i < 64 {
-			p.A.Hi |= 1 << (63 - i)
-		}
-		if d == '1' && i >= 64 {
-			p.A.Lo |= 1 << (127 - i)
-		}
-	}
-	return p
-}
-
-// inOrder is prefix.Compare, of two that may be: by all digits, then by how many there are.
-func inOrder(p, q api.Prefix) int {
-	return cmp.Or(strings.Compare(whole(p.A), whole(q.A)), cmp.Compare(p.N, q.N))
-}
 
 // model is what is there, and the greatest number of nodes that there ever was.
 type model struct {
@@ -83,7 +28,7 @@ func newModel() *model { return &model{there: map[api.Prefix]int{}, slots: 2} }
 func (m *model) nodes() int {
 	set := map[string]bool{"4:": true, "6:": true}
 	for p := range m.there {
-		for k := key(p); !set[k]; k = k[:len(k)-1] {
+		for k := onpaper.Key(p); !set[k]; k = k[:len(k)-1] {
 			set[k] = true
 		}
 	}
@@ -91,7 +36,7 @@ func (m *model) nodes() int {
 }
 
 func (m *model) put(p api.Prefix, v int) api.Errno {
-	if !mayBe(p) {
+	if !onpaper.MayBe(p) {
 		return api.ErrBadPrefix
 	}
 	m.there[p] = v
@@ -100,7 +45,7 @@ func (m *model) put(p api.Prefix, v int) api.Errno {
 }
 
 func (m *model) del(p api.Prefix) api.Errno {
-	if !mayBe(p) {
+	if !onpaper.MayBe(p) {
 		return api.ErrBadPrefix
 	}
 	if _, ok := m.there[p]; !ok {
@@ -118,16 +63,16 @@ func (m *model) those(want func(q api.Prefix) bool) []Pair {
 			l = append(l, Pair{P: q, V: v})
 		}
 	}
-	slices.SortFunc(l, func(x, y Pair) int { return inOrder(x.P, y.P) })
+	slices.SortFunc(l, func(x, y Pair) int { return onpaper.Compare(x.P, y.P) })
 	return l
 }
 
 func (m *model) above(p api.Prefix) []Pair {
-	return m.those(func(q api.Prefix) bool { return mayBe(p) && strings.HasPrefix(key(p), key(q)) })
+	return m.those(func(q api.Prefix) bool { return onpaper.Covers(q, p) })
 }
 
 func (m *model) under(p api.Prefix) []Pair {
-	return m.those(func(q api.Prefix) bool { return mayBe(p) && strings.HasPrefix(key(q), key(p)) })
+	return m.those(func(q api.Prefix) bool { return onpaper.Covers(p, q) })
 }
 
 func (m *model) inside(p api.Prefix) bool {
@@ -136,7 +81,7 @@ func (m *model) inside(p api.Prefix) bool {
 }
 
 func (m *model) longest(a api.Addr) (Pair, bool) {
-	l := m.those(func(q api.Prefix) bool { return strings.HasPrefix(whole(a), key(q)) })
+	l := m.those(func(q api.Prefix) bool { return onpaper.Contains(q, a) })
 	if len(l) == 0 {
 		return Pair{}, false
 	}
@@ -229,32 +174,13 @@ func samples() []api.Prefix {
 	was := map[api.Prefix]bool{}
 	for _, w := range [][2]uint64{{0, 0}, {all, all}, {0xC1A3957B0D2F4E68, 0x9D5B7F31E2C48A61}, {0xC1A3957B0D2F4E68, 0}, {0x0A01020300000000, 1}, {0x0A01020400000000, 1}} {
 		for _, v6 := range []bool{false, true} {
-			for n := 0; n <= width(v6); n++ {
-				if p := cut(w[0], w[1], n, v6); !was[p] {
+			for n := 0; n <= onpaper.Width(v6); n++ {
+				if p := onpaper.Cut(w[0], w[1], n, v6); !was[p] {
 					was[p] = true
 					l = append(l, p)
 				}
 			}
 		}
-	}
-	return l
-}
-
-// wrong are prefixes that may not be: N, digits behind N, digits that a short address does not have.
-func wrong() []api.Prefix {
-	short, long := api.Addr{Hi: 0x0A810203 << 32}, api.Addr{Hi: 0x20010DB800000000, Lo: 1, V6: true}
-	l := []api.Prefix{
-		{A: short, N: 8}, {A: short, N: 31}, {A: short, N: 0},
-		{A: long, N: 32}, {A: long, N: 127}, {A: long, N: 0},
-		{A: api.Addr{Hi: 0x0A810203<<32 | 1}, N: 32}, {A: api.Addr{Hi: 0x0A810203 << 32, Lo: 1}, N: 32},
-		{A: api.Addr{Hi: 1 << 31}, N: 32}, {A: api.Addr{Lo: 1 << 63}, N: 0}, {A: api.Addr{Hi: 1 << 31}, N: 33},
-		{A: api.Addr{Hi: 1 << 63}, N: 0},
-	}
-	for _, n := range []int{math.MinInt, -128, -32, -1, 33, 64, 128, 129, math.MaxInt} {
-		l = append(l, api.Prefix{N: n}, api.Prefix{A: short, N: n})
-	}
-	for _, n := range []int{math.MinInt, -128, -1, 129, 256, math.MaxInt} {
-		l = append(l, api.Prefix{A: api.Addr{V6: true}, N: n}, api.Prefix{A: long, N: n})
 	}
 	return l
 }
@@ -273,18 +199,10 @@ func addresses() []api.Addr {
 // numbers are any that a prefix may have.
 var numbers = []int{0, 1, -1, 2, 65535, math.MinInt, math.MaxInt}
 
-// mixer tells numbers that are neither in order nor alike, the same ones in each run.
-type mixer uint64
-
-func (m *mixer) below(n int) int {
-	*m = *m*6364136223846793005 + 1442695040888963407
-	return int(*m >> 33 % mixer(n))
-}
-
 // P5.1
 
 func TestNew(t *testing.T) {
-	wantSame(t, New(), newModel(), append(samples(), wrong()...), addresses())
+	wantSame(t, New(), newModel(), append(samples(), onpaper.Wrong()...), addresses())
 }
 
 func TestPut(t *testing.T) {
@@ -299,7 +217,7 @@ func TestPut(t *testing.T) {
 			t.Errorf("Get(%v) = %d, %v, not %d, true", p, got, ok, v)
 		}
 	}
-	wantSame(t, x, m, append(samples(), wrong()...), addresses())
+	wantSame(t, x, m, append(samples(), onpaper.Wrong()...), addresses())
 }
 
 func TestPutOfEachAlone(t *testing.T) {
@@ -309,7 +227,7 @@ func TestPutOfEachAlone(t *testing.T) {
 			t.Errorf("Put(%v) = %d", p, e)
 		}
 		m.put(p, 7)
-		wantSame(t, x, m, []api.Prefix{p, {}, {A: api.Addr{V6: true}}, cut(p.A.Hi, p.A.Lo, p.N/2, p.A.V6), cut(p.A.Hi, p.A.Lo, width(p.A.V6), p.A.V6)}, []api.Addr{p.A})
+		wantSame(t, x, m, []api.Prefix{p, {}, {A: api.Addr{V6: true}}, onpaper.Cut(p.A.Hi, p.A.Lo, p.N/2, p.A.V6), onpaper.Cut(p.A.Hi, p.A.Lo, onpaper.Width(p.A.V6), p.A.V6)}, []api.Addr{p.A})
 	}
 }
 
@@ -348,7 +266,7 @@ func TestDel(t *testing.T) {
 			t.Errorf("Get(%v) = %d, %v", p, v, ok)
 		}
 	}
-	wantSame(t, x, m, append(samples(), wrong()...), addresses())
+	wantSame(t, x, m, append(samples(), onpaper.Wrong()...), addresses())
 }
 
 func TestDelAndPutAgain(t *testing.T) {
@@ -398,14 +316,14 @@ func TestErrorsChangeNothing(t *testing.T) {
 	for k, s := range there {
 		m.put(parse(t, s), k)
 	}
-	for _, p := range wrong() {
+	for _, p := range onpaper.Wrong() {
 		x.Put(p, 1)
 		x.Del(p)
 	}
 	for _, s := range []string{"0.0.0.0/0", "10.0.0.0/7", "10.1.0.0/16", "10.1.2.0/25", "12.0.0.0/8", "::/0", "2001:db8::/33"} {
 		x.Del(parse(t, s))
 	}
-	wantSame(t, x, m, append(samples(), wrong()...), addresses())
+	wantSame(t, x, m, append(samples(), onpaper.Wrong()...), addresses())
 }
 
 func TestPrefixesThatMayNotBe(t *testing.T) {
@@ -414,7 +332,7 @@ func TestPrefixesThatMayNotBe(t *testing.T) {
 		full.Put(p, k)
 	}
 	for _, x := range []*Trie{New(), full} {
-		for _, p := range wrong() {
+		for _, p := range onpaper.Wrong() {
 			if e := x.Put(p, 1); e != api.ErrBadPrefix {
 				t.Errorf("Put(%v) = %d", p, e)
 			}
@@ -662,7 +580,7 @@ func TestInsideOfOneAlone(t *testing.T) {
 		if x.Inside(p) {
 			t.Errorf("%v lies inside of itself", p)
 		}
-		if p.N > 0 && !x.Inside(cut(p.A.Hi, p.A.Lo, p.N-1, p.A.V6)) {
+		if p.N > 0 && !x.Inside(onpaper.Cut(p.A.Hi, p.A.Lo, p.N-1, p.A.V6)) {
 			t.Errorf("%v does not lie inside of its parent", p)
 		}
 	}
@@ -774,18 +692,18 @@ func TestNodesComeAgainWithNothing(t *testing.T) {
 func TestAnyOrder(t *testing.T) {
 	var pool []api.Prefix
 	for _, p := range samples() {
-		if p.N%3 == 0 || p.N > width(p.A.V6)-3 || p.N < 4 {
+		if p.N%3 == 0 || p.N > onpaper.Width(p.A.V6)-3 || p.N < 4 {
 			pool = append(pool, p)
 		}
 	}
-	pool = append(pool, wrong()[:6]...)
+	pool = append(pool, onpaper.Wrong()[:6]...)
 	some := addresses()
 	for seed := range 6 {
-		x, m, next := New(), newModel(), mixer(seed)
+		x, m, next := New(), newModel(), onpaper.Mixer(seed)
 		for step := range 600 {
-			p := pool[next.below(len(pool))]
-			v := numbers[next.below(len(numbers))]
-			del := next.below(6) < 2+step/150 // more comes than goes at first, and less later
+			p := pool[next.Below(len(pool))]
+			v := numbers[next.Below(len(numbers))]
+			del := next.Below(6) < 2+step/150 // more comes than goes at first, and less later
 			if del {
 				if e, want := x.Del(p), m.del(p); e != want {
 					t.Fatalf("Del(%v) = %d, not %d", p, e, want)
@@ -831,7 +749,7 @@ func TestNotMadeByNew(t *testing.T) {
 				t.Errorf("Del(%v) = %d", p, e)
 			}
 		}
-		for _, p := range wrong() {
+		for _, p := range onpaper.Wrong() {
 			if e := x.Put(p, 1); e != api.ErrBadPrefix {
 				t.Errorf("Put(%v) = %d", p, e)
 			}
@@ -840,7 +758,7 @@ func TestNotMadeByNew(t *testing.T) {
 			}
 		}
 		empty := newModel()
-		for _, p := range append(samples(), wrong()...) {
+		for _, p := range append(samples(), onpaper.Wrong()...) {
 			wantPrefix(t, x, empty, p)
 		}
 		for _, a := range addresses() {
@@ -856,14 +774,14 @@ func TestNotMadeByNew(t *testing.T) {
 
 func TestNothingIsLeft(t *testing.T) {
 	for seed := range 4 {
-		x, next := New(), mixer(seed)
+		x, next := New(), onpaper.Mixer(seed)
 		l := samples()
 		for k, p := range l {
 			x.Put(p, k)
 		}
 		slots := x.Nodes()
 		for n := len(l); n > 0; n-- { // in any order
-			k := next.below(n)
+			k := next.Below(n)
 			if e := x.Del(l[k]); e != api.OK {
 				t.Fatalf("Del(%v) = %d", l[k], e)
 			}
@@ -915,10 +833,10 @@ func TestNodesAreBounded(t *testing.T) {
 
 // As many as there may be routes, of all digits.
 func TestMany(t *testing.T) {
-	x, next := New(), mixer(1)
+	x, next := New(), onpaper.Mixer(1)
 	var l []api.Prefix
 	for k := range api.MaxRoutes {
-		p := cut(uint64(k)<<52|uint64(next.below(1<<20)), uint64(k), 128, true)
+		p := onpaper.Cut(uint64(k)<<52|uint64(next.Below(1<<20)), uint64(k), 128, true)
 		l = append(l, p)
 		if e := x.Put(p, k); e != api.OK {
 			t.Fatal(e)

@@ -10,46 +10,23 @@ import (
 	"testing"
 
 	"kedge/api"
+	"kedge/onpaper"
 )
 
 // The tests hold the package against bytes written out by hand, and against digits written out as text, straight from the fields of an address.
 
 const all = math.MaxUint64
 
-func width(v6 bool) int {
-	if v6 {
-		return 128
-	}
-	return 32
-}
-
-// digits are all 128 places of an address, those that a short one does not have among them.
-func digits(a api.Addr) string { return fmt.Sprintf("%064b%064b", a.Hi, a.Lo) }
-
-func mayBe(p api.Prefix) bool {
-	return p.N >= 0 && p.N <= width(p.A.V6) && !strings.Contains(digits(p.A)[p.N:], "1")
-}
-
-// cut is the prefix of the first n digits of these words; n is 0 to the width.
-func cut(hi, lo uint64, n int, v6 bool) api.Prefix {
-	s := digits(api.Addr{Hi: hi, Lo: lo})[:n]
-	s += strings.Repeat("0", 128-n)
-	a := api.Addr{V6: v6}
-	a.Hi, _ = strconv.ParseUint(s[:64], 2, 64)
-	a.Lo, _ = strconv.ParseUint(s[64:], 2, 64)
-	return api.Prefix{A: a, N: n}
-}
-
 // laid are the bytes of a prefix, digit by digit; none of one that may not be.
 func laid(p api.Prefix) []byte {
-	if !mayBe(p) {
+	if !onpaper.MayBe(p) {
 		return nil
 	}
 	b := []byte{4, byte(p.N)}
 	if p.A.V6 {
 		b[0] = 6
 	}
-	for s := digits(p.A); (len(b)-2)*8 < p.N; {
+	for s := onpaper.Digits(p.A); (len(b)-2)*8 < p.N; {
 		x, _ := strconv.ParseUint(s[(len(b)-2)*8:(len(b)-1)*8], 2, 8)
 		b = append(b, byte(x))
 	}
@@ -75,7 +52,7 @@ func read(b []byte) (api.Prefix, int, api.Errno) {
 		return none, 0, api.ErrForm
 	}
 	v6, n := b[0] == 6, int(b[1])
-	if n > width(v6) {
+	if n > onpaper.Width(v6) {
 		return none, 0, api.ErrBadPrefix
 	}
 	bits := ""
@@ -131,27 +108,9 @@ const mixedHi, mixedLo uint64 = 0xC1A3957B0D2F4E68, 0x9D5B7F31E2C48A61
 func saneSamples() []api.Prefix {
 	var l []api.Prefix
 	for _, v6 := range []bool{false, true} {
-		for n := 0; n <= width(v6); n++ {
-			l = append(l, cut(mixedHi, mixedLo, n, v6), cut(all, all, n, v6), cut(0, 0, n, v6))
+		for n := 0; n <= onpaper.Width(v6); n++ {
+			l = append(l, onpaper.Cut(mixedHi, mixedLo, n, v6), onpaper.Cut(all, all, n, v6), onpaper.Cut(0, 0, n, v6))
 		}
-	}
-	return l
-}
-
-// badSamples are prefixes that may not be: N, digits behind N, digits that a short address does not have.
-func badSamples() []api.Prefix {
-	short, long := api.Addr{Hi: 0x0A810203 << 32}, api.Addr{Hi: 0x20010DB800000000, Lo: 1, V6: true}
-	l := []api.Prefix{
-		{A: short, N: 8}, {A: short, N: 31}, {A: short, N: 0},
-		{A: long, N: 32}, {A: long, N: 127}, {A: long, N: 0},
-		{A: api.Addr{Hi: 0x0A810203<<32 | 1}, N: 32}, {A: api.Addr{Hi: 0x0A810203 << 32, Lo: 1}, N: 32},
-		{A: api.Addr{Hi: 1 << 31}, N: 32}, {A: api.Addr{Lo: 1 << 63}, N: 0}, {A: api.Addr{Hi: 1 << 31}, N: 33},
-	}
-	for _, n := range []int{math.MinInt, -256, -248, -8, -1, 33, 128, 256, 264, 288, math.MaxInt} {
-		l = append(l, api.Prefix{N: n}, api.Prefix{A: short, N: n})
-	}
-	for _, n := range []int{math.MinInt, -256, -128, -1, 129, 255, 256, 264, 384, math.MaxInt} {
-		l = append(l, api.Prefix{A: api.Addr{V6: true}, N: n}, api.Prefix{A: long, N: n})
 	}
 	return l
 }
@@ -206,24 +165,24 @@ func TestPut(t *testing.T) {
 		p    api.Prefix
 		want []byte
 	}{
-		{cut(0x0A<<56, 0, 8, false), []byte{4, 8, 10}},
-		{cut(0x0A810203<<32, 0, 0, false), []byte{4, 0}},
-		{cut(0x0A810203<<32, 0, 1, false), []byte{4, 1, 0}},
-		{cut(0xFA810203<<32, 0, 7, false), []byte{4, 7, 0xFA}},
-		{cut(0x0A810203<<32, 0, 9, false), []byte{4, 9, 10, 128}},
-		{cut(0x0A810203<<32, 0, 16, false), []byte{4, 16, 10, 129}},
-		{cut(0x0A810203<<32, 0, 17, false), []byte{4, 17, 10, 129, 0}},
-		{cut(0x0A810203<<32, 0, 31, false), []byte{4, 31, 10, 129, 2, 2}},
-		{cut(0x0A810203<<32, 0, 32, false), []byte{4, 32, 10, 129, 2, 3}},
+		{onpaper.Cut(0x0A<<56, 0, 8, false), []byte{4, 8, 10}},
+		{onpaper.Cut(0x0A810203<<32, 0, 0, false), []byte{4, 0}},
+		{onpaper.Cut(0x0A810203<<32, 0, 1, false), []byte{4, 1, 0}},
+		{onpaper.Cut(0xFA810203<<32, 0, 7, false), []byte{4, 7, 0xFA}},
+		{onpaper.Cut(0x0A810203<<32, 0, 9, false), []byte{4, 9, 10, 128}},
+		{onpaper.Cut(0x0A810203<<32, 0, 16, false), []byte{4, 16, 10, 129}},
+		{onpaper.Cut(0x0A810203<<32, 0, 17, false), []byte{4, 17, 10, 129, 0}},
+		{onpaper.Cut(0x0A810203<<32, 0, 31, false), []byte{4, 31, 10, 129, 2, 2}},
+		{onpaper.Cut(0x0A810203<<32, 0, 32, false), []byte{4, 32, 10, 129, 2, 3}},
 		{api.Prefix{}, []byte{4, 0}},
 		{api.Prefix{A: api.Addr{V6: true}}, []byte{6, 0}},
 		{api.Prefix{N: 32}, []byte{4, 32, 0, 0, 0, 0}},
-		{cut(0x20010DB8<<32, 0, 29, true), []byte{6, 29, 0x20, 1, 0x0D, 0xB8}},
-		{cut(0x20010DB8<<32, 0, 32, true), []byte{6, 32, 0x20, 1, 0x0D, 0xB8}},
-		{cut(0x0102030405060708, 0x090A0B0C0D0E0F10, 64, true), []byte{6, 64, 1, 2, 3, 4, 5, 6, 7, 8}},
-		{cut(0x0102030405060708, 0xF90A0B0C0D0E0F10, 65, true), []byte{6, 65, 1, 2, 3, 4, 5, 6, 7, 8, 128}},
-		{cut(0x0102030405060708, 0x090A0B0C0D0E0F11, 128, true), []byte{6, 128, 1, 2, 3, 4, 5, 6, 7, 8, 9, 10, 11, 12, 13, 14, 15, 17}},
-		{cut(0x0102030405060708, 0x090A0B0C0D0E0F11, 127, true), []byte{6, 127, 1, 2, 3, 4, 5, 6, 7, 8, 9, 10, 11, 12, 13, 14, 15, 16}},
+		{onpaper.Cut(0x20010DB8<<32, 0, 29, true), []byte{6, 29, 0x20, 1, 0x0D, 0xB8}},
+		{onpaper.Cut(0x20010DB8<<32, 0, 32, true), []byte{6, 32, 0x20, 1, 0x0D, 0xB8}},
+		{onpaper.Cut(0x0102030405060708, 0x090A0B0C0D0E0F10, 64, true), []byte{6, 64, 1, 2, 3, 4, 5, 6, 7, 8}},
+		{onpaper.Cut(0x0102030405060708, 0xF90A0B0C0D0E0F10, 65, true), []byte{6, 65, 1, 2, 3, 4, 5, 6, 7, 8, 128}},
+		{onpaper.Cut(0x0102030405060708, 0x090A0B0C0D0E0F11, 128, true), []byte{6, 128, 1, 2, 3, 4, 5, 6, 7, 8, 9, 10, 11, 12, 13, 14, 15, 17}},
+		{onpaper.Cut(0x0102030405060708, 0x090A0B0C0D0E0F11, 127, true), []byte{6, 127, 1, 2, 3, 4, 5, 6, 7, 8, 9, 10, 11, 12, 13, 14, 15, 16}},
 	} {
 		if got := Put(nil, c.p); !bytes.Equal(got, c.want) {
 			t.Errorf("Put(nil, %v) = %v, not %v", c.p, got, c.want)
@@ -233,7 +192,7 @@ func TestPut(t *testing.T) {
 
 func TestPutBehindBytes(t *testing.T) {
 	for _, b := range heads() {
-		for _, p := range append(saneSamples(), badSamples()...) {
+		for _, p := range append(saneSamples(), onpaper.Wrong()...) {
 			want := append(slices.Clone(b), laid(p)...)
 			if got := Put(b, p); !bytes.Equal(got, want) {
 				t.Fatalf("Put(%v, %v) = %v, not %v", b, p, got, want)
@@ -243,7 +202,7 @@ func TestPutBehindBytes(t *testing.T) {
 }
 
 func TestPutOfWhatMayNotBe(t *testing.T) {
-	for _, p := range badSamples() {
+	for _, p := range onpaper.Wrong() {
 		if got := Put(nil, p); len(got) != 0 {
 			t.Errorf("Put(nil, %v) = %v", p, got)
 		}
@@ -254,7 +213,7 @@ func TestPutOfWhatMayNotBe(t *testing.T) {
 }
 
 func TestGet(t *testing.T) {
-	wantPrefix(t, []byte{4, 8, 10}, cut(0x0A<<56, 0, 8, false), 3, api.OK)
+	wantPrefix(t, []byte{4, 8, 10}, onpaper.Cut(0x0A<<56, 0, 8, false), 3, api.OK)
 	wantPrefix(t, []byte{4, 0}, api.Prefix{}, 2, api.OK)
 	wantPrefix(t, []byte{6, 0}, api.Prefix{A: api.Addr{V6: true}}, 2, api.OK)
 	wantPrefix(t, []byte{4, 9, 10, 128}, api.Prefix{A: api.Addr{Hi: 0x0A80 << 48}, N: 9}, 4, api.OK)
@@ -325,8 +284,8 @@ func TestDigitsBehind(t *testing.T) {
 	wantError(t, []byte{4, 9, 10, 129, 0, 0, 0}, api.ErrBadPrefix)
 	wantError(t, []byte{6, 1, 1}, api.ErrBadPrefix)
 	for _, v6 := range []bool{false, true} {
-		for n := 0; n <= width(v6); n++ {
-			b := laid(cut(mixedHi, mixedLo, n, v6))
+		for n := 0; n <= onpaper.Width(v6); n++ {
+			b := laid(onpaper.Cut(mixedHi, mixedLo, n, v6))
 			for place := n; place < (len(b)-2)*8; place++ {
 				wrong := slices.Clone(b)
 				wrong[2+place/8] |= 128 >> (place % 8)
@@ -366,7 +325,7 @@ func TestGood(t *testing.T) {
 			}
 		}
 	}
-	for _, p := range badSamples() {
+	for _, p := range onpaper.Wrong() {
 		for _, hop := range append(goodHops, badHops...) {
 			if r := (api.Route{P: p, Hop: hop}); Good(r) {
 				t.Errorf("%v is Good", r)
@@ -376,7 +335,7 @@ func TestGood(t *testing.T) {
 }
 
 func TestPutRoute(t *testing.T) {
-	p := cut(0x0A810000<<32, 0, 16, false)
+	p := onpaper.Cut(0x0A810000<<32, 0, 16, false)
 	for _, c := range []struct {
 		r    api.Route
 		want []byte
@@ -388,7 +347,7 @@ func TestPutRoute(t *testing.T) {
 		{api.Route{P: p, Hop: 256}, []byte{4, 16, 10, 129, 1, 0}},
 		{api.Route{P: p, Hop: 258}, []byte{4, 16, 10, 129, 1, 2}},
 		{api.Route{P: p, Hop: 65535}, []byte{4, 16, 10, 129, 255, 255}},
-		{api.Route{P: cut(0x20010DB8<<32, 0, 29, true), Hop: 0x1234}, []byte{6, 29, 0x20, 1, 0x0D, 0xB8, 0x12, 0x34}},
+		{api.Route{P: onpaper.Cut(0x20010DB8<<32, 0, 29, true), Hop: 0x1234}, []byte{6, 29, 0x20, 1, 0x0D, 0xB8, 0x12, 0x34}},
 		{api.Route{P: p, Hop: 65536}, nil},
 		{api.Route{P: p, Hop: -1}, nil},
 		{api.Route{P: api.Prefix{A: p.A, N: 15}, Hop: 1}, nil},
@@ -404,7 +363,7 @@ func TestPutRoute(t *testing.T) {
 
 func TestPutRouteOfWhatIsNotGood(t *testing.T) {
 	for _, b := range heads() {
-		for _, p := range badSamples() {
+		for _, p := range onpaper.Wrong() {
 			for _, hop := range append(goodHops, badHops...) {
 				if got := PutRoute(b, api.Route{P: p, Hop: hop}); !bytes.Equal(got, b) {
 					t.Fatalf("PutRoute(%v, %v, %d) = %v", b, p, hop, got)
@@ -422,13 +381,13 @@ func TestPutRouteOfWhatIsNotGood(t *testing.T) {
 }
 
 func TestGetRoute(t *testing.T) {
-	p := cut(0x0A810000<<32, 0, 16, false)
+	p := onpaper.Cut(0x0A810000<<32, 0, 16, false)
 	wantRoute(t, []byte{4, 16, 10, 129, 1, 2}, api.Route{P: p, Hop: 258}, 6, api.OK)
 	wantRoute(t, []byte{4, 16, 10, 129, 0, 0}, api.Route{P: p}, 6, api.OK)
 	wantRoute(t, []byte{4, 16, 10, 129, 255, 255, 7}, api.Route{P: p, Hop: 65535}, 6, api.OK)
 	wantRoute(t, []byte{4, 0, 0, 0}, api.Route{}, 4, api.OK)
 	wantRoute(t, []byte{6, 0, 128, 0, 9, 9}, api.Route{P: api.Prefix{A: api.Addr{V6: true}}, Hop: 32768}, 4, api.OK)
-	wantRoute(t, []byte{6, 29, 0x20, 1, 0x0D, 0xB8, 0x12, 0x34}, api.Route{P: cut(0x20010DB8<<32, 0, 29, true), Hop: 0x1234}, 8, api.OK)
+	wantRoute(t, []byte{6, 29, 0x20, 1, 0x0D, 0xB8, 0x12, 0x34}, api.Route{P: onpaper.Cut(0x20010DB8<<32, 0, 29, true), Hop: 0x1234}, 8, api.OK)
 }
 
 func TestHopMissing(t *testing.T) {
@@ -448,7 +407,7 @@ func TestHopMissing(t *testing.T) {
 func TestEachHop(t *testing.T) {
 	for hop := range 65536 {
 		b := []byte{6, 8, 0xFD, byte(hop / 256), byte(hop % 256)}
-		r := api.Route{P: cut(0xFD<<56, 0, 8, true), Hop: hop}
+		r := api.Route{P: onpaper.Cut(0xFD<<56, 0, 8, true), Hop: hop}
 		if got := PutRoute(nil, r); !bytes.Equal(got, b) {
 			t.Fatalf("PutRoute(nil, %v) = %v, not %v", r, got, b)
 		}
@@ -487,7 +446,7 @@ func TestPutAll(t *testing.T) {
 	if got := PutAll([]api.Route{}); len(got) != 0 {
 		t.Errorf("PutAll of none = %v", got)
 	}
-	l := []api.Route{{Hop: 1}, {P: api.Prefix{A: api.Addr{V6: true}}, Hop: 65535}, {P: cut(0x0A<<56, 0, 8, false), Hop: 2}, {Hop: 1}}
+	l := []api.Route{{Hop: 1}, {P: api.Prefix{A: api.Addr{V6: true}}, Hop: 65535}, {P: onpaper.Cut(0x0A<<56, 0, 8, false), Hop: 2}, {Hop: 1}}
 	want := []byte{4, 0, 0, 1, 6, 0, 255, 255, 4, 8, 10, 0, 2, 4, 0, 0, 1}
 	if got := PutAll(l); !bytes.Equal(got, want) {
 		t.Errorf("PutAll(%v) = %v, not %v", l, got, want)
@@ -495,7 +454,7 @@ func TestPutAll(t *testing.T) {
 }
 
 func TestPutAllLeavesOutWhatIsNotGood(t *testing.T) {
-	ten := cut(0x0A<<56, 0, 8, false)
+	ten := onpaper.Cut(0x0A<<56, 0, 8, false)
 	l := []api.Route{{Hop: -1}, {P: ten, Hop: 3}, {P: api.Prefix{N: 33}, Hop: 3}, {P: ten, Hop: 65536}, {P: ten, Hop: 4}, {P: api.Prefix{A: ten.A, N: 4}}}
 	if got, want := PutAll(l), []byte{4, 8, 10, 0, 3, 4, 8, 10, 0, 4}; !bytes.Equal(got, want) {
 		t.Errorf("PutAll(%v) = %v, not %v", l, got, want)
@@ -505,7 +464,7 @@ func TestPutAllLeavesOutWhatIsNotGood(t *testing.T) {
 	}
 	var mixed []api.Route
 	var want []byte
-	for i, p := range append(saneSamples(), badSamples()...) {
+	for i, p := range append(saneSamples(), onpaper.Wrong()...) {
 		for _, hop := range []int{goodHops[i%len(goodHops)], badHops[i%len(badHops)]} {
 			mixed = append(mixed, api.Route{P: p, Hop: hop})
 			want = append(want, laidRoute(api.Route{P: p, Hop: hop})...)
@@ -521,7 +480,7 @@ func TestGetAll(t *testing.T) {
 	wantAll(t, []byte{}, nil, api.OK)
 	wantAll(t, []byte{4, 0, 0, 1}, []api.Route{{Hop: 1}}, api.OK)
 	wantAll(t, []byte{4, 0, 0, 1, 6, 0, 255, 255}, []api.Route{{Hop: 1}, {P: api.Prefix{A: api.Addr{V6: true}}, Hop: 65535}}, api.OK)
-	wantAll(t, []byte{4, 8, 10, 0, 2, 4, 8, 10, 0, 2}, []api.Route{{P: cut(0x0A<<56, 0, 8, false), Hop: 2}, {P: cut(0x0A<<56, 0, 8, false), Hop: 2}}, api.OK)
+	wantAll(t, []byte{4, 8, 10, 0, 2, 4, 8, 10, 0, 2}, []api.Route{{P: onpaper.Cut(0x0A<<56, 0, 8, false), Hop: 2}, {P: onpaper.Cut(0x0A<<56, 0, 8, false), Hop: 2}}, api.OK)
 	l := goodRoutes()
 	var b []byte
 	for _, r := range l {
@@ -616,7 +575,7 @@ func TestPutAllThenGetAll(t *testing.T) {
 // What is handed in
 
 func TestWhatIsHandedInStays(t *testing.T) {
-	r := api.Route{P: cut(mixedHi, mixedLo, 128, true), Hop: 513}
+	r := api.Route{P: onpaper.Cut(mixedHi, mixedLo, 128, true), Hop: 513}
 	bad := api.Route{P: api.Prefix{N: 33}, Hop: 513}
 	for size := range 40 {
 		room := bytes.Repeat([]byte{0xAA}, 64)
@@ -670,7 +629,7 @@ func TestListsStay(t *testing.T) {
 func TestLongLists(t *testing.T) {
 	l := make([]api.Route, 1<<18)
 	for i := range l {
-		l[i] = api.Route{P: cut(mixedHi, mixedLo, 128, true), Hop: i % 65536}
+		l[i] = api.Route{P: onpaper.Cut(mixedHi, mixedLo, 128, true), Hop: i % 65536}
 	}
 	b := PutAll(l)
 	if len(b) != 20*len(l) {
