@@ -263,18 +263,30 @@ func TestRib(t *testing.T) {
 	}
 }
 
-func TestLeafgenAndCover(t *testing.T) {
+func TestLeafgen(t *testing.T) {
 	for _, r := range ribs() {
-		for _, a := range addrs {
-			leafgen.Leaf(r, a)
-			leafgen.Block(r, a)
-			leafgen.Exact(r, a)
-			for _, n := range ints {
-				leafgen.Widest(r, a, n)
+		for range 2 {
+			for _, a := range addrs {
+				leafgen.Leaf(r, a)
+				leafgen.Block(r, a)
+				leafgen.Exact(r, a)
+				for _, n := range ints {
+					leafgen.Widest(r, a, n)
+				}
+			}
+			for i, x := range routes() { // while less and less is there
+				leafgen.Good(r, x)
+				leafgen.Leaf(r, x.P.A)
+				leafgen.Widest(r, x.P.A, ints[i%len(ints)])
+				r.Withdraw(x.P)
 			}
 		}
+	}
+}
+
+func TestCover(t *testing.T) {
+	for _, r := range ribs() {
 		for _, x := range routes() {
-			leafgen.Good(r, x)
 			cover.Count(r, x.P)
 		}
 		for _, p := range prefixes() {

@@ -108,6 +108,17 @@ func Wrong() []api.Prefix {
 	return l
 }
 
+// Addrs are addresses of both kinds, some of them with digits that a short one does not have.
+func Addrs() []api.Addr {
+	var l []api.Addr
+	for _, hi := range []uint64{0, 1, 1 << 32, 1 << 63, 0x0A010203 << 32, 0x0A01020300000001, 0x0A010204 << 32, 0x0B000000 << 32, 0x20010DB800000000, 0x20010DB880000000, 0x20010DB900000000, math.MaxUint64} {
+		for _, lo := range []uint64{0, 1, 0x0001000000000000, math.MaxUint64} {
+			l = append(l, api.Addr{Hi: hi, Lo: lo}, api.Addr{Hi: hi, Lo: lo, V6: true})
+		}
+	}
+	return l
+}
+
 // Mixer tells numbers that are neither in order nor alike, the same ones in each run.
 type Mixer uint64
 

@@ -5,25 +5,24 @@ import (
 	"maps"
 	"math"
 	"slices"
-	"strings"
 	"testing"
 
 	"kedge/api"
 	"kedge/onpaper"
-	"kedge/text"
+	"kedge/written"
 )
 
 // The tests hold the package against routes written out by hand, and against a model: a map of the routes that are there, gone over from end to end for each question, with prefixes held against each other as digits written out as text.
 
 // model is the routes that are there, with what is known of them.
 type model struct {
-	there map[api.Prefix]int
+	there onpaper.Routes
 	n, h  int
 	slots int // the most nodes that there ever were
 }
 
 func newModel(n, h int) *model {
-	return &model{there: map[api.Prefix]int{}, n: min(max(n, 0), 4096), h: min(max(h, 0), 65536), slots: 2}
+	return &model{there: onpaper.Routes{}, n: min(max(n, 0), 4096), h: min(max(h, 0), 65536), slots: 2}
 }
 
 func (m *model) nodes() int {
@@ -36,7 +35,7 @@ func (m *model) nodes() int {
 	return len(set)
 }
 
-func hopsOf(there map[api.Prefix]int) []int {
+func hopsOf(there onpaper.Routes) []int {
 	return slices.Compact(slices.Sorted(maps.Values(there)))
 }
 
@@ -68,67 +67,6 @@ func (m *model) withdraw(p api.Prefix) api.Errno {
 	return api.OK
 }
 
-// those are the routes that are wanted, in order (so the shortest first, of those that cover one).
-func (m *model) those(want func(q api.Prefix) bool) []api.Route {
-	var l []api.Route
-	for q, hop := range m.there {
-		if want(q) {
-			l = append(l, api.Route{P: q, Hop: hop})
-		}
-	}
-	slices.SortFunc(l, func(x, y api.Route) int { return onpaper.Compare(x.P, y.P) })
-	return l
-}
-
-func (m *model) dump() []api.Route { return m.those(func(api.Prefix) bool { return true }) }
-
-func last(l []api.Route) (api.Route, bool) {
-	if len(l) == 0 {
-		return api.Route{}, false
-	}
-	return l[len(l)-1], true
-}
-
-func (m *model) longest(a api.Addr) (api.Route, bool) {
-	return last(m.those(func(q api.Prefix) bool { return onpaper.Contains(q, a) }))
-}
-
-func (m *model) governs(p api.Prefix) (api.Route, bool) {
-	return last(m.those(func(q api.Prefix) bool { return onpaper.Covers(q, p) }))
-}
-
-func (m *model) inside(p api.Prefix) bool {
-	l := m.those(func(q api.Prefix) bool { return q != p && onpaper.Covers(p, q) })
-	return len(l) > 0
-}
-
-func parse(t *testing.T, s string) api.Prefix {
-	t.Helper()
-	p, e := text.Parse(s)
-	if e != api.OK {
-		t.Fatal(s, e)
-	}
-	return p
-}
-
-func parseAddr(t *testing.T, s string) api.Addr {
-	t.Helper()
-	a, e := text.ParseAddr(s)
-	if e != api.OK {
-		t.Fatal(s, e)
-	}
-	return a
-}
-
-// show tells routes as they are written, each with its hop.
-func show(l ...api.Route) string {
-	var parts []string
-	for _, x := range l {
-		parts = append(parts, fmt.Sprint(text.Print(x.P), ">", x.Hop))
-	}
-	return strings.Join(parts, " ")
-}
-
 // step is an Add of a prefix as it is written, or a Withdraw (where hop is gone), and what it tells.
 type step struct {
 	s    string
@@ -142,7 +80,7 @@ const gone = math.MinInt
 func play(t *testing.T, r *Rib, l ...step) {
 	t.Helper()
 	for k, x := range l {
-		p := parse(t, x.s)
+		p := written.Prefix(x.s)
 		if x.hop == gone {
 			if e := r.Withdraw(p); e != x.want {
 				t.Errorf("step %d: Withdraw(%s) = %d, not %d", k, x.s, e, x.want)
@@ -158,7 +96,7 @@ func play(t *testing.T, r *Rib, l ...step) {
 // wantDump: these are the routes, as they are written, and these hops are used.
 func wantDump(t *testing.T, r *Rib, dump, hops string) {
 	t.Helper()
-	if s := show(r.Dump()...); s != dump {
+	if s := written.Show(r.Dump()...); s != dump {
 		t.Errorf("Dump = %s, not %s", s, dump)
 	}
 	if s := fmt.Sprint(r.Hops()); s != hops {
@@ -176,24 +114,24 @@ func wantSize(t *testing.T, r *Rib, n, nodes, slots int) {
 // wantSame: whatever is asked, it is told as the model tells it.
 func wantSame(t *testing.T, r *Rib, m *model, prefixes []api.Prefix, addrs []api.Addr) {
 	t.Helper()
-	if l := r.Dump(); !slices.Equal(l, m.dump()) {
-		t.Errorf("Dump = %v, not %v", l, m.dump())
+	if l := r.Dump(); !slices.Equal(l, m.there.All()) {
+		t.Errorf("Dump = %v, not %v", l, m.there.All())
 	}
 	if l := r.Hops(); !slices.Equal(l, hopsOf(m.there)) {
 		t.Errorf("Hops = %v, not %v", l, hopsOf(m.there))
 	}
 	wantSize(t, r, len(m.there), m.nodes(), m.slots)
 	for _, p := range prefixes {
-		want, there := m.governs(p)
+		want, there := m.there.Governs(p)
 		if x, ok := r.Governs(p); x != want || ok != there {
 			t.Errorf("Governs(%v) = %v, %v, not %v, %v", p, x, ok, want, there)
 		}
-		if in := r.Inside(p); in != m.inside(p) {
+		if in := r.Inside(p); in != m.there.Inside(p) {
 			t.Errorf("Inside(%v) = %v", p, in)
 		}
 	}
 	for _, a := range addrs {
-		want, there := m.longest(a)
+		want, there := m.there.Longest(a)
 		if x, ok := r.Longest(a); x != want || ok != there {
 			t.Errorf("Longest(%v) = %v, %v, not %v, %v", a, x, ok, want, there)
 		}
@@ -213,25 +151,9 @@ func both(t *testing.T, n, h int, l ...api.Route) (*Rib, *model) {
 }
 
 // samples are prefixes that may be, of both kinds, many of them beside, above and below others, as others of the same digits of the other kind.
-func samples(t *testing.T) []api.Prefix {
-	t.Helper()
-	var l []api.Prefix
-	for _, s := range strings.Fields("0.0.0.0/0 0.0.0.0/1 128.0.0.0/1 10.0.0.0/7 10.0.0.0/8 11.0.0.0/8 10.0.0.0/9 10.1.0.0/16 10.1.2.0/24 10.1.2.3/32 10.1.2.2/32 32.1.0.0/16 32.1.13.184/32 255.255.255.255/32 0.0.0.0/32 " +
-		"::/0 ::/1 8000::/1 2001:db8::/31 2001:db8::/32 2001:db9::/32 2001:db8::/33 2001:db8::/64 2001:db8:0:0:1::/80 2001:db8::1/128 2001:db8::/128 a00::/8 a01::/16 ffff:ffff:ffff:ffff:ffff:ffff:ffff:ffff/128 ::/128") {
-		l = append(l, parse(t, s))
-	}
-	return l
-}
-
-// addresses are of both kinds, some of them with digits that a short one does not have.
-func addresses() []api.Addr {
-	var l []api.Addr
-	for _, hi := range []uint64{0, 1, 1 << 32, 1 << 63, 0x0A010203 << 32, 0x0A01020300000001, 0x0A010204 << 32, 0x0B000000 << 32, 0x20010DB800000000, 0x20010DB880000000, 0x20010DB900000000, math.MaxUint64} {
-		for _, lo := range []uint64{0, 1, 0x0001000000000000, math.MaxUint64} {
-			l = append(l, api.Addr{Hi: hi, Lo: lo}, api.Addr{Hi: hi, Lo: lo, V6: true})
-		}
-	}
-	return l
+func samples() []api.Prefix {
+	return written.Prefixes("0.0.0.0/0 0.0.0.0/1 128.0.0.0/1 10.0.0.0/7 10.0.0.0/8 11.0.0.0/8 10.0.0.0/9 10.1.0.0/16 10.1.2.0/24 10.1.2.3/32 10.1.2.2/32 32.1.0.0/16 32.1.13.184/32 255.255.255.255/32 0.0.0.0/32 " +
+		"::/0 ::/1 8000::/1 2001:db8::/31 2001:db8::/32 2001:db9::/32 2001:db8::/33 2001:db8::/64 2001:db8:0:0:1::/80 2001:db8::1/128 2001:db8::/128 a00::/8 a01::/16 ffff:ffff:ffff:ffff:ffff:ffff:ffff:ffff/128 ::/128")
 }
 
 // wrongHops are below 0, and above MaxHop.
@@ -251,7 +173,7 @@ func TestNew(t *testing.T) {
 	for _, n := range []int{math.MinInt, -1, 0, 1, 3, 4096, 4097, math.MaxInt} {
 		for _, h := range []int{math.MinInt, -1, 0, 1, 3, 65536, 65537, math.MaxInt} {
 			r := New(n, h)
-			wantSame(t, r, newModel(n, h), append(samples(t), onpaper.Wrong()...), addresses())
+			wantSame(t, r, newModel(n, h), append(samples(), onpaper.Wrong()...), onpaper.Addrs())
 			wantSize(t, r, 0, 2, 2)
 		}
 	}
@@ -313,14 +235,14 @@ func TestHowManyHops(t *testing.T) {
 func TestAdd(t *testing.T) {
 	r, m := New(4096, 65536), newModel(4096, 65536)
 	hops := []int{0, 1, 2, 65535, 65534, 1, 0}
-	for k, p := range samples(t) {
+	for k, p := range samples() {
 		hop := hops[k%len(hops)]
 		if e, want := r.Add(p, hop), m.add(p, hop); e != want || e != api.OK {
 			t.Errorf("Add(%v, %d) = %d", p, hop, e)
 		}
-		wantSame(t, r, m, samples(t), nil)
+		wantSame(t, r, m, samples(), nil)
 	}
-	wantSame(t, r, m, append(samples(t), onpaper.Wrong()...), addresses())
+	wantSame(t, r, m, append(samples(), onpaper.Wrong()...), onpaper.Addrs())
 }
 
 func TestAddInPlace(t *testing.T) {
@@ -331,7 +253,7 @@ func TestAddInPlace(t *testing.T) {
 }
 
 func TestAddOfPrefixThatMayNotBe(t *testing.T) {
-	full, m := both(t, 2, 1, api.Route{P: parse(t, "10.0.0.0/8"), Hop: 1}, api.Route{P: parse(t, "::/0"), Hop: 1})
+	full, m := both(t, 2, 1, api.Route{P: written.Prefix("10.0.0.0/8"), Hop: 1}, api.Route{P: written.Prefix("::/0"), Hop: 1})
 	for _, r := range []*Rib{full, New(9, 9), New(0, 0), New(-1, -1)} {
 		for _, p := range onpaper.Wrong() {
 			for _, hop := range append([]int{0, 1, 2, 65535}, wrongHops...) { // ahead of ErrArg, and of ErrFull
@@ -341,23 +263,23 @@ func TestAddOfPrefixThatMayNotBe(t *testing.T) {
 			}
 		}
 	}
-	wantSame(t, full, m, append(samples(t), onpaper.Wrong()...), addresses())
+	wantSame(t, full, m, append(samples(), onpaper.Wrong()...), onpaper.Addrs())
 }
 
 func TestAddOfHopThatMayNotBe(t *testing.T) {
-	full, m := both(t, 2, 1, api.Route{P: parse(t, "10.0.0.0/8"), Hop: 1}, api.Route{P: parse(t, "::/0"), Hop: 1})
+	full, m := both(t, 2, 1, api.Route{P: written.Prefix("10.0.0.0/8"), Hop: 1}, api.Route{P: written.Prefix("::/0"), Hop: 1})
 	roomy := New(9, 9)
 	for _, r := range []*Rib{full, roomy, New(0, 0), New(9, 0), New(0, 9)} {
 		for _, hop := range wrongHops { // ahead of ErrFull
-			for _, p := range samples(t) {
+			for _, p := range samples() {
 				if e := r.Add(p, hop); e != api.ErrArg {
 					t.Errorf("Add(%v, %d) = %d", p, hop, e)
 				}
 			}
 		}
 	}
-	wantSame(t, full, m, append(samples(t), onpaper.Wrong()...), addresses())
-	wantSame(t, roomy, newModel(9, 9), append(samples(t), onpaper.Wrong()...), addresses())
+	wantSame(t, full, m, append(samples(), onpaper.Wrong()...), onpaper.Addrs())
+	wantSame(t, roomy, newModel(9, 9), append(samples(), onpaper.Wrong()...), onpaper.Addrs())
 }
 
 func TestHopsAtTheirEnds(t *testing.T) {
@@ -400,7 +322,7 @@ func TestFullByBoth(t *testing.T) {
 
 func TestNoRoom(t *testing.T) {
 	for _, r := range []*Rib{New(0, 0), New(0, 9), New(9, 0), New(-1, 9), New(9, -1), New(math.MinInt, math.MinInt)} {
-		for _, p := range samples(t) {
+		for _, p := range samples() {
 			for _, hop := range []int{0, 1, 65535} {
 				if e := r.Add(p, hop); e != api.ErrFull {
 					t.Errorf("Add(%v, %d) = %d", p, hop, e)
@@ -452,7 +374,7 @@ func TestUsesOfHop(t *testing.T) {
 
 func TestWithdraw(t *testing.T) {
 	var l []api.Route
-	for k, p := range samples(t) {
+	for k, p := range samples() {
 		l = append(l, api.Route{P: p, Hop: k % 4})
 	}
 	r, m := both(t, 4096, 4, l...)
@@ -464,22 +386,22 @@ func TestWithdraw(t *testing.T) {
 		if e := r.Withdraw(p); e != api.ErrAbsent {
 			t.Errorf("Withdraw(%v) = %d for the second time", p, e)
 		}
-		wantSame(t, r, m, samples(t), nil)
+		wantSame(t, r, m, samples(), nil)
 	}
 	wantDump(t, r, "", "[]")
-	wantSame(t, r, m, append(samples(t), onpaper.Wrong()...), addresses())
+	wantSame(t, r, m, append(samples(), onpaper.Wrong()...), onpaper.Addrs())
 }
 
 func TestWithdrawOfWhatHasNoRoute(t *testing.T) {
-	r, m := both(t, 9, 9, api.Route{P: parse(t, "10.1.0.0/16"), Hop: 0}, api.Route{P: parse(t, "2001:db8::/32"), Hop: 2})
+	r, m := both(t, 9, 9, api.Route{P: written.Prefix("10.1.0.0/16"), Hop: 0}, api.Route{P: written.Prefix("2001:db8::/32"), Hop: 2})
 	for _, s := range []string{"0.0.0.0/0", "::/0", "10.0.0.0/8", "10.1.0.0/17", "10.1.0.0/32", "11.0.0.0/8", "2001:db8::/31", "2001:db8::/33", "32.1.13.184/32"} {
 		play(t, r, step{s, gone, api.ErrAbsent})
 	}
-	wantSame(t, r, m, append(samples(t), onpaper.Wrong()...), addresses())
+	wantSame(t, r, m, append(samples(), onpaper.Wrong()...), onpaper.Addrs())
 }
 
 func TestWithdrawOfPrefixThatMayNotBe(t *testing.T) {
-	r, m := both(t, 9, 9, api.Route{P: parse(t, "10.0.0.0/8"), Hop: 1}, api.Route{P: parse(t, "2001:db8::/32"), Hop: 2}, api.Route{P: parse(t, "0.0.0.0/0"), Hop: 2})
+	r, m := both(t, 9, 9, api.Route{P: written.Prefix("10.0.0.0/8"), Hop: 1}, api.Route{P: written.Prefix("2001:db8::/32"), Hop: 2}, api.Route{P: written.Prefix("0.0.0.0/0"), Hop: 2})
 	for _, r := range []*Rib{r, New(9, 9), New(0, 0)} {
 		for _, p := range onpaper.Wrong() { // ahead of ErrAbsent: it has no route either
 			if e := r.Withdraw(p); e != api.ErrBadPrefix {
@@ -487,11 +409,11 @@ func TestWithdrawOfPrefixThatMayNotBe(t *testing.T) {
 			}
 		}
 	}
-	wantSame(t, r, m, append(samples(t), onpaper.Wrong()...), addresses())
+	wantSame(t, r, m, append(samples(), onpaper.Wrong()...), onpaper.Addrs())
 }
 
 func TestErrorsChangeNothing(t *testing.T) {
-	r, m := both(t, 3, 2, api.Route{P: parse(t, "10.0.0.0/8"), Hop: 1}, api.Route{P: parse(t, "10.1.0.0/16"), Hop: 1}, api.Route{P: parse(t, "2001:db8::/32"), Hop: 2})
+	r, m := both(t, 3, 2, api.Route{P: written.Prefix("10.0.0.0/8"), Hop: 1}, api.Route{P: written.Prefix("10.1.0.0/16"), Hop: 1}, api.Route{P: written.Prefix("2001:db8::/32"), Hop: 2})
 	refuse := func(what string, e, want api.Errno) {
 		t.Helper()
 		if e != want {
@@ -502,7 +424,7 @@ func TestErrorsChangeNothing(t *testing.T) {
 		refuse("Add of a bad prefix", r.Add(p, 1), api.ErrBadPrefix)
 		refuse("Withdraw of a bad prefix", r.Withdraw(p), api.ErrBadPrefix)
 	}
-	for _, p := range samples(t) {
+	for _, p := range samples() {
 		for _, hop := range wrongHops {
 			refuse("Add of a bad hop", r.Add(p, hop), api.ErrArg)
 		}
@@ -512,11 +434,11 @@ func TestErrorsChangeNothing(t *testing.T) {
 			refuse("Withdraw of what has no route", r.Withdraw(p), api.ErrAbsent)
 		}
 	}
-	refuse("a third hop", r.Add(parse(t, "10.0.0.0/8"), 3), api.ErrFull)
-	refuse("a third hop", r.Add(parse(t, "10.1.0.0/16"), 3), api.ErrFull)
-	wantSame(t, r, m, append(samples(t), onpaper.Wrong()...), addresses())
-	refuse("the last use of hop 2", r.Add(parse(t, "2001:db8::/32"), 3), api.OK) // what was counted is as it was, too
-	refuse("hop 2 is not used", r.Add(parse(t, "10.0.0.0/8"), 2), api.ErrFull)
+	refuse("a third hop", r.Add(written.Prefix("10.0.0.0/8"), 3), api.ErrFull)
+	refuse("a third hop", r.Add(written.Prefix("10.1.0.0/16"), 3), api.ErrFull)
+	wantSame(t, r, m, append(samples(), onpaper.Wrong()...), onpaper.Addrs())
+	refuse("the last use of hop 2", r.Add(written.Prefix("2001:db8::/32"), 3), api.OK) // what was counted is as it was, too
+	refuse("hop 2 is not used", r.Add(written.Prefix("10.0.0.0/8"), 2), api.ErrFull)
 }
 
 // P6.3
@@ -525,8 +447,8 @@ func TestLongest(t *testing.T) {
 	r := New(99, 99)
 	want := func(a, w string) {
 		t.Helper()
-		x, ok := r.Longest(parseAddr(t, a))
-		if w == "" && (ok || x != (api.Route{})) || w != "" && (!ok || show(x) != w) {
+		x, ok := r.Longest(written.Addr(a))
+		if w == "" && (ok || x != (api.Route{})) || w != "" && (!ok || written.Show(x) != w) {
 			t.Errorf("Longest(%s) = %v, %v, not %s", a, x, ok, w)
 		}
 	}
@@ -559,8 +481,8 @@ func TestGoverns(t *testing.T) {
 	r := New(99, 99)
 	want := func(p, w string) {
 		t.Helper()
-		x, ok := r.Governs(parse(t, p))
-		if w == "" && (ok || x != (api.Route{})) || w != "" && (!ok || show(x) != w) {
+		x, ok := r.Governs(written.Prefix(p))
+		if w == "" && (ok || x != (api.Route{})) || w != "" && (!ok || written.Show(x) != w) {
 			t.Errorf("Governs(%s) = %v, %v, not %s", p, x, ok, w)
 		}
 	}
@@ -597,7 +519,7 @@ func TestInside(t *testing.T) {
 	r := New(99, 99)
 	want := func(p string, w bool) {
 		t.Helper()
-		if in := r.Inside(parse(t, p)); in != w {
+		if in := r.Inside(written.Prefix(p)); in != w {
 			t.Errorf("Inside(%s) = %v", p, in)
 		}
 	}
@@ -626,7 +548,7 @@ func TestInside(t *testing.T) {
 
 func TestPrefixesThatMayNotBe(t *testing.T) {
 	var l []api.Route
-	for _, p := range samples(t) {
+	for _, p := range samples() {
 		l = append(l, api.Route{P: p, Hop: 1})
 	}
 	full, _ := both(t, 4096, 1, l...)
@@ -667,8 +589,8 @@ func TestAnswersStay(t *testing.T) {
 	play(t, r, step{"10.0.0.0/8", 1, api.OK}, step{"11.0.0.0/8", 2, api.OK})
 	dump, hops := r.Dump(), r.Hops()
 	play(t, r, step{"10.0.0.0/8", 3, api.OK}, step{"11.0.0.0/8", gone, api.OK}, step{"::/0", 4, api.OK})
-	if show(dump...) != "10.0.0.0/8>1 11.0.0.0/8>2" || fmt.Sprint(hops) != "[1 2]" {
-		t.Error(show(dump...), hops)
+	if written.Show(dump...) != "10.0.0.0/8>1 11.0.0.0/8>2" || fmt.Sprint(hops) != "[1 2]" {
+		t.Error(written.Show(dump...), hops)
 	}
 	dump, hops = r.Dump(), r.Hops()
 	dump[0].Hop, hops[0] = 77, 77
@@ -729,7 +651,7 @@ func TestSize(t *testing.T) {
 // P6.2 to P6.4, by steps of all kinds in any order.
 func TestManySteps(t *testing.T) {
 	m := onpaper.Mixer(6)
-	prefixes, bad := samples(t), onpaper.Wrong()
+	prefixes, bad := samples(), onpaper.Wrong()
 	for _, c := range []struct{ n, h int }{{0, 3}, {3, 0}, {1, 1}, {3, 2}, {2, 3}, {5, 3}, {5, 9}, {12, 4}, {30, 5}, {4096, 65536}} {
 		r, want := New(c.n, c.h), newModel(c.n, c.h)
 		for k := range 500 {
@@ -749,7 +671,7 @@ func TestManySteps(t *testing.T) {
 			}
 			wantSame(t, r, want, []api.Prefix{p}, []api.Addr{p.A})
 			if k%100 == 99 {
-				wantSame(t, r, want, append(prefixes, bad...), addresses())
+				wantSame(t, r, want, append(prefixes, bad...), onpaper.Addrs())
 			}
 			if t.Failed() {
 				return
@@ -764,7 +686,7 @@ func TestNotMadeByNew(t *testing.T) {
 	for name, r := range map[string]*Rib{"nil": nil, "zero": {}} {
 		t.Run(name, func(t *testing.T) {
 			for range 2 {
-				for _, p := range samples(t) {
+				for _, p := range samples() {
 					for _, hop := range []int{0, 1, 65535} {
 						if e := r.Add(p, hop); e != api.ErrFull {
 							t.Errorf("Add(%v, %d) = %d", p, hop, e)
@@ -787,12 +709,12 @@ func TestNotMadeByNew(t *testing.T) {
 						t.Errorf("Withdraw(%v) = %d", p, e)
 					}
 				}
-				for _, p := range append(samples(t), onpaper.Wrong()...) {
+				for _, p := range append(samples(), onpaper.Wrong()...) {
 					if x, ok := r.Governs(p); ok || x != (api.Route{}) || r.Inside(p) {
 						t.Errorf("Governs(%v) = %v, %v", p, x, ok)
 					}
 				}
-				for _, a := range addresses() {
+				for _, a := range onpaper.Addrs() {
 					if x, ok := r.Longest(a); ok || x != (api.Route{}) {
 						t.Errorf("Longest(%v) = %v, %v", a, x, ok)
 					}

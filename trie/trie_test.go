@@ -11,6 +11,7 @@ import (
 	"kedge/api"
 	"kedge/onpaper"
 	"kedge/text"
+	"kedge/written"
 )
 
 // The tests hold the package against prefixes written out by hand, and against a model: a map of what is there, whose keys are held against each other as digits written out as text, straight from the fields of an address.
@@ -129,30 +130,12 @@ func wantSame(t *testing.T, x *Trie, m *model, prefixes []api.Prefix, addrs []ap
 	}
 }
 
-func parse(t *testing.T, s string) api.Prefix {
-	t.Helper()
-	p, e := text.Parse(s)
-	if e != api.OK {
-		t.Fatal(s, e)
-	}
-	return p
-}
-
-func parseAddr(t *testing.T, s string) api.Addr {
-	t.Helper()
-	a, e := text.ParseAddr(s)
-	if e != api.OK {
-		t.Fatal(s, e)
-	}
-	return a
-}
-
 // filled is one with these prefixes, each with its place in the list as its number.
 func filled(t *testing.T, l ...string) *Trie {
 	t.Helper()
 	x := New()
 	for k, s := range l {
-		if e := x.Put(parse(t, s), k); e != api.OK {
+		if e := x.Put(written.Prefix(s), k); e != api.OK {
 			t.Fatal(s, e)
 		}
 	}
@@ -271,7 +254,7 @@ func TestDel(t *testing.T) {
 
 func TestDelAndPutAgain(t *testing.T) {
 	x := filled(t, "10.0.0.0/8", "10.1.0.0/16")
-	p := parse(t, "10.1.0.0/16")
+	p := written.Prefix("10.1.0.0/16")
 	x.Del(p)
 	if _, ok := x.Get(p); ok {
 		t.Error("what was taken out is there")
@@ -288,18 +271,18 @@ func TestDelOfWhatIsNotThere(t *testing.T) {
 	there := []string{"10.0.0.0/8", "10.1.2.0/24", "2001:db8::/32", "2001:db8::1/128"}
 	x, m := filled(t, there...), newModel()
 	for k, s := range there {
-		m.put(parse(t, s), k)
+		m.put(written.Prefix(s), k)
 	}
 	for _, s := range []string{ // those that have a node, and those that have none
 		"0.0.0.0/0", "::/0", "10.0.0.0/7", "10.0.0.0/9", "10.1.0.0/16", "10.1.2.0/25", "11.0.0.0/8", "2001:db8::/31", "2001:db8::/128", "32.1.13.184/32",
 	} {
-		if e := x.Del(parse(t, s)); e != api.ErrAbsent {
+		if e := x.Del(written.Prefix(s)); e != api.ErrAbsent {
 			t.Errorf("Del(%s) = %d", s, e)
 		}
 	}
 	wantSame(t, x, m, samples(), addresses())
 	for _, s := range there {
-		p := parse(t, s)
+		p := written.Prefix(s)
 		if e := x.Del(p); e != api.OK || m.del(p) != api.OK {
 			t.Errorf("Del(%s) = %d", s, e)
 		}
@@ -314,14 +297,14 @@ func TestErrorsChangeNothing(t *testing.T) {
 	there := []string{"10.0.0.0/8", "10.1.2.0/24", "2001:db8::/32"}
 	x, m := filled(t, there...), newModel()
 	for k, s := range there {
-		m.put(parse(t, s), k)
+		m.put(written.Prefix(s), k)
 	}
 	for _, p := range onpaper.Wrong() {
 		x.Put(p, 1)
 		x.Del(p)
 	}
 	for _, s := range []string{"0.0.0.0/0", "10.0.0.0/7", "10.1.0.0/16", "10.1.2.0/25", "12.0.0.0/8", "::/0", "2001:db8::/33"} {
-		x.Del(parse(t, s))
+		x.Del(written.Prefix(s))
 	}
 	wantSame(t, x, m, append(samples(), onpaper.Wrong()...), addresses())
 }
@@ -356,7 +339,7 @@ func TestPrefixesThatMayNotBe(t *testing.T) {
 }
 
 func TestNoDigits(t *testing.T) {
-	short, long := parse(t, "0.0.0.0/0"), parse(t, "::/0")
+	short, long := written.Prefix("0.0.0.0/0"), written.Prefix("::/0")
 	x := New()
 	if x.Put(short, 4) != api.OK {
 		t.Error("Put")
@@ -397,7 +380,7 @@ func TestAllDigits(t *testing.T) {
 	} {
 		x := filled(t, c.l...)
 		for k, s := range c.l {
-			p := parse(t, s)
+			p := written.Prefix(s)
 			if v, ok := x.Get(p); v != k || !ok || p.N != c.width {
 				t.Errorf("Get(%s) = %d, %v", s, v, ok)
 			}
@@ -420,28 +403,28 @@ func TestAllDigits(t *testing.T) {
 // Of both kinds there are prefixes with the same digits.
 func TestKindsAreApart(t *testing.T) {
 	x := filled(t, "32.1.0.0/16", "2001::/17", "0.0.0.0/3")
-	if _, ok := x.Get(parse(t, "2001::/16")); ok {
+	if _, ok := x.Get(written.Prefix("2001::/16")); ok {
 		t.Error("2001::/16 is there")
 	}
-	if _, ok := x.Get(parse(t, "32.1.0.0/17")); ok {
+	if _, ok := x.Get(written.Prefix("32.1.0.0/17")); ok {
 		t.Error("32.1.0.0/17 is there")
 	}
-	if l, ok := x.Longest(parseAddr(t, "2001:8000::")); ok {
+	if l, ok := x.Longest(written.Addr("2001:8000::")); ok {
 		t.Error(l)
 	}
-	if l, ok := x.Longest(parseAddr(t, "32.1.0.0")); l.V != 0 || !ok {
+	if l, ok := x.Longest(written.Addr("32.1.0.0")); l.V != 0 || !ok {
 		t.Error(l, ok)
 	}
-	if s := show(x.Above(parse(t, "2001::/64"))); s != "2001::/17=1" {
+	if s := show(x.Above(written.Prefix("2001::/64"))); s != "2001::/17=1" {
 		t.Error(s)
 	}
-	if s := show(x.Under(parse(t, "0.0.0.0/0"))); s != "0.0.0.0/3=2 32.1.0.0/16=0" {
+	if s := show(x.Under(written.Prefix("0.0.0.0/0"))); s != "0.0.0.0/3=2 32.1.0.0/16=0" {
 		t.Error(s)
 	}
-	if x.Inside(parse(t, "2001::/17")) || x.Inside(parse(t, "32.1.0.0/16")) {
+	if x.Inside(written.Prefix("2001::/17")) || x.Inside(written.Prefix("32.1.0.0/16")) {
 		t.Error("Inside")
 	}
-	if x.Del(parse(t, "2001::/16")) != api.ErrAbsent || x.Del(parse(t, "32.1.0.0/17")) != api.ErrAbsent {
+	if x.Del(written.Prefix("2001::/16")) != api.ErrAbsent || x.Del(written.Prefix("32.1.0.0/17")) != api.ErrAbsent {
 		t.Error("Del")
 	}
 }
@@ -457,29 +440,29 @@ func TestLongest(t *testing.T) {
 	} {
 		wantPair := Pair{}
 		if want >= 0 {
-			wantPair = Pair{parse(t, l[want]), want}
+			wantPair = Pair{written.Prefix(l[want]), want}
 		}
-		if got, ok := x.Longest(parseAddr(t, s)); got != wantPair || ok != (want >= 0) {
+		if got, ok := x.Longest(written.Addr(s)); got != wantPair || ok != (want >= 0) {
 			t.Errorf("Longest(%s) = %v, %v, not %v", s, got, ok, wantPair)
 		}
 	}
-	x.Put(parse(t, "0.0.0.0/0"), 77)
-	if got, ok := x.Longest(parseAddr(t, "11.0.0.0")); got != (Pair{api.Prefix{}, 77}) || !ok {
+	x.Put(written.Prefix("0.0.0.0/0"), 77)
+	if got, ok := x.Longest(written.Addr("11.0.0.0")); got != (Pair{api.Prefix{}, 77}) || !ok {
 		t.Error(got, ok)
 	}
-	x.Del(parse(t, "10.1.2.3/32"))
-	if got, ok := x.Longest(parseAddr(t, "10.1.2.3")); got.V != 2 || !ok {
+	x.Del(written.Prefix("10.1.2.3/32"))
+	if got, ok := x.Longest(written.Addr("10.1.2.3")); got.V != 2 || !ok {
 		t.Error(got, ok)
 	}
 }
 
 func TestLongestOfTheOtherKindAlone(t *testing.T) {
 	x := filled(t, "0.0.0.0/0", "0.0.0.0/1", "0.0.0.0/32")
-	if l, ok := x.Longest(parseAddr(t, "::")); l != (Pair{}) || ok {
+	if l, ok := x.Longest(written.Addr("::")); l != (Pair{}) || ok {
 		t.Error(l, ok)
 	}
 	x = filled(t, "::/0", "::/32", "::/128")
-	if l, ok := x.Longest(parseAddr(t, "0.0.0.0")); l != (Pair{}) || ok {
+	if l, ok := x.Longest(written.Addr("0.0.0.0")); l != (Pair{}) || ok {
 		t.Error(l, ok)
 	}
 }
@@ -495,11 +478,11 @@ func TestLongestWithNumberZero(t *testing.T) {
 func TestLongestOfDigitsThatAreNone(t *testing.T) {
 	x := filled(t, "10.1.2.3/32", "10.0.0.0/8")
 	for _, a := range []api.Addr{{Hi: 0x0A01020300000001}, {Hi: 0x0A010203FFFFFFFF, Lo: all}, {Hi: 0x0A010203 << 32, Lo: 1}} {
-		if l, ok := x.Longest(a); l != (Pair{parse(t, "10.1.2.3/32"), 0}) || !ok {
+		if l, ok := x.Longest(a); l != (Pair{written.Prefix("10.1.2.3/32"), 0}) || !ok {
 			t.Errorf("Longest(%v) = %v, %v", a, l, ok)
 		}
 	}
-	if l, ok := x.Longest(api.Addr{Hi: 0x0A010204FFFFFFFF, Lo: all}); l != (Pair{parse(t, "10.0.0.0/8"), 1}) || !ok {
+	if l, ok := x.Longest(api.Addr{Hi: 0x0A010204FFFFFFFF, Lo: all}); l != (Pair{written.Prefix("10.0.0.0/8"), 1}) || !ok {
 		t.Error(l, ok)
 	}
 }
@@ -519,13 +502,13 @@ func TestAbove(t *testing.T) {
 		"2001:db8::1/128": "::/0=5 2001:db8::/32=6 2001:db8::/33=7",
 		"2001:db9::/32":   "::/0=5",
 	} {
-		if got := show(x.Above(parse(t, s))); got != want {
+		if got := show(x.Above(written.Prefix(s))); got != want {
 			t.Errorf("Above(%s) = %s, not %s", s, got, want)
 		}
 	}
-	x.Del(parse(t, "0.0.0.0/0"))
+	x.Del(written.Prefix("0.0.0.0/0"))
 	for _, s := range []string{"0.0.0.0/0", "10.0.0.0/7", "12.0.0.0/8", "255.255.255.255/32"} {
-		if l := x.Above(parse(t, s)); len(l) != 0 {
+		if l := x.Above(written.Prefix(s)); len(l) != 0 {
 			t.Errorf("Above(%s) = %v", s, l)
 		}
 	}
@@ -550,7 +533,7 @@ func TestUnder(t *testing.T) {
 		"2001:db8::1/128": "",
 		"8000::/1":        "",
 	} {
-		if got := show(x.Under(parse(t, s))); got != want {
+		if got := show(x.Under(written.Prefix(s))); got != want {
 			t.Errorf("Under(%s) = %s, not %s", s, got, want)
 		}
 	}
@@ -563,12 +546,12 @@ func TestInside(t *testing.T) {
 		"10.1.2.0/24": false, "10.1.2.0/25": false, "10.1.128.0/17": false, "10.0.0.0/16": false, "12.0.0.0/8": false, "128.0.0.0/1": false,
 		"::/0": true, "2001:db8::/32": true, "2001:db8::/127": true, "2001:db8::1/128": false, "2001:db8::/128": false,
 	} {
-		if got := x.Inside(parse(t, s)); got != want {
+		if got := x.Inside(written.Prefix(s)); got != want {
 			t.Errorf("Inside(%s) = %v", s, got)
 		}
 	}
-	x.Del(parse(t, "10.1.2.0/24"))
-	if x.Inside(parse(t, "10.1.0.0/16")) || !x.Inside(parse(t, "10.0.0.0/15")) {
+	x.Del(written.Prefix("10.1.2.0/24"))
+	if x.Inside(written.Prefix("10.1.0.0/16")) || !x.Inside(written.Prefix("10.0.0.0/15")) {
 		t.Error("10.1.0.0/16 is there alone")
 	}
 }
@@ -589,12 +572,12 @@ func TestInsideOfOneAlone(t *testing.T) {
 // What was answered is not changed by what is done behind it.
 func TestAnswersStay(t *testing.T) {
 	x := filled(t, "10.0.0.0/8", "10.1.0.0/16")
-	above, under := x.Above(parse(t, "10.1.0.0/16")), x.Under(parse(t, "10.0.0.0/8"))
-	x.Put(parse(t, "10.0.0.0/8"), 50)
-	x.Del(parse(t, "10.1.0.0/16"))
-	x.Put(parse(t, "10.0.0.0/9"), 51)
-	x.Above(parse(t, "10.1.0.0/16"))
-	x.Under(parse(t, "10.0.0.0/8"))
+	above, under := x.Above(written.Prefix("10.1.0.0/16")), x.Under(written.Prefix("10.0.0.0/8"))
+	x.Put(written.Prefix("10.0.0.0/8"), 50)
+	x.Del(written.Prefix("10.1.0.0/16"))
+	x.Put(written.Prefix("10.0.0.0/9"), 51)
+	x.Above(written.Prefix("10.1.0.0/16"))
+	x.Under(written.Prefix("10.0.0.0/8"))
 	if want := "10.0.0.0/8=0 10.1.0.0/16=1"; show(above) != want || show(under) != want {
 		t.Error(show(above), show(under))
 	}
@@ -620,7 +603,7 @@ func TestNodesThatAreShared(t *testing.T) {
 		{"2001:db9::/32", 53},
 		{"2001:db8::/128", 149},
 	} {
-		x.Put(parse(t, c.s), 1)
+		x.Put(written.Prefix(c.s), 1)
 		if x.Nodes() != c.nodes || x.Slots() != c.nodes {
 			t.Errorf("behind %s: %d nodes, %d slots, not %d", c.s, x.Nodes(), x.Slots(), c.nodes)
 		}
@@ -643,7 +626,7 @@ func TestNodesThatGo(t *testing.T) {
 		{"10.1.3.0/24", 10}, // down to the one that is there
 		{"10.0.0.0/8", 2},
 	} {
-		if e := x.Del(parse(t, c.s)); e != api.OK || x.Nodes() != c.nodes || x.Slots() != 35 {
+		if e := x.Del(written.Prefix(c.s)); e != api.OK || x.Nodes() != c.nodes || x.Slots() != 35 {
 			t.Errorf("without %s: %d, %d nodes, %d slots, not %d nodes", c.s, e, x.Nodes(), x.Slots(), c.nodes)
 		}
 	}
@@ -653,25 +636,25 @@ func TestNodesThatGo(t *testing.T) {
 func TestSlots(t *testing.T) {
 	x := filled(t, "10.0.0.0/8")
 	for range 5 { // what goes and comes again needs no more
-		x.Del(parse(t, "10.0.0.0/8"))
+		x.Del(written.Prefix("10.0.0.0/8"))
 		wantSizes(t, x, 0, 2, 10)
-		x.Put(parse(t, "11.0.0.0/8"), 1)
+		x.Put(written.Prefix("11.0.0.0/8"), 1)
 		wantSizes(t, x, 1, 10, 10)
-		x.Del(parse(t, "11.0.0.0/8"))
-		x.Put(parse(t, "2000::/3"), 1)
+		x.Del(written.Prefix("11.0.0.0/8"))
+		x.Put(written.Prefix("2000::/3"), 1)
 		wantSizes(t, x, 1, 5, 10)
-		x.Put(parse(t, "128.0.0.0/5"), 1)
+		x.Put(written.Prefix("128.0.0.0/5"), 1)
 		wantSizes(t, x, 2, 10, 10)
-		x.Del(parse(t, "2000::/3"))
-		x.Del(parse(t, "128.0.0.0/5"))
-		x.Put(parse(t, "10.0.0.0/8"), 1)
+		x.Del(written.Prefix("2000::/3"))
+		x.Del(written.Prefix("128.0.0.0/5"))
+		x.Put(written.Prefix("10.0.0.0/8"), 1)
 		wantSizes(t, x, 1, 10, 10)
 	}
-	x.Put(parse(t, "11.0.0.0/8"), 1)
+	x.Put(written.Prefix("11.0.0.0/8"), 1)
 	wantSizes(t, x, 2, 11, 11)
-	x.Del(parse(t, "10.0.0.0/8"))
+	x.Del(written.Prefix("10.0.0.0/8"))
 	wantSizes(t, x, 1, 10, 11)
-	x.Put(parse(t, "2001:db8::/32"), 1)
+	x.Put(written.Prefix("2001:db8::/32"), 1)
 	wantSizes(t, x, 2, 42, 42)
 }
 
@@ -679,13 +662,13 @@ func TestSlots(t *testing.T) {
 func TestNodesComeAgainWithNothing(t *testing.T) {
 	x := filled(t, "10.1.0.0/16", "10.1.128.0/17", "10.1.0.0/17")
 	for _, s := range []string{"10.1.0.0/16", "10.1.128.0/17", "10.1.0.0/17"} {
-		x.Del(parse(t, s))
+		x.Del(written.Prefix(s))
 	}
-	x.Put(parse(t, "2001::/18"), 5)
+	x.Put(written.Prefix("2001::/18"), 5)
 	m := newModel()
-	m.put(parse(t, "2001::/18"), 5)
+	m.put(written.Prefix("2001::/18"), 5)
 	m.slots = 20
-	wantSame(t, x, m, append(samples(), parse(t, "2001::/18"), parse(t, "2001::/16"), parse(t, "2001::/17")), append(addresses(), parseAddr(t, "2001::")))
+	wantSame(t, x, m, append(samples(), written.Prefix("2001::/18"), written.Prefix("2001::/16"), written.Prefix("2001::/17")), append(addresses(), written.Addr("2001::")))
 }
 
 // Put and Del in any order, held against the model.
@@ -728,11 +711,11 @@ func TestTwoOfThem(t *testing.T) {
 	x, y := filled(t, "10.0.0.0/8"), filled(t, "10.0.0.0/16", "11.0.0.0/8")
 	wantSizes(t, x, 1, 10, 10)
 	wantSizes(t, y, 2, 19, 19)
-	y.Del(parse(t, "10.0.0.0/16"))
-	if v, ok := x.Get(parse(t, "10.0.0.0/8")); v != 0 || !ok {
+	y.Del(written.Prefix("10.0.0.0/16"))
+	if v, ok := x.Get(written.Prefix("10.0.0.0/8")); v != 0 || !ok {
 		t.Error(v, ok)
 	}
-	if _, ok := y.Get(parse(t, "10.0.0.0/8")); ok {
+	if _, ok := y.Get(written.Prefix("10.0.0.0/8")); ok {
 		t.Error("it is in the other one")
 	}
 }
@@ -799,7 +782,7 @@ func TestPutAndTakenOutLeavesNoNode(t *testing.T) {
 	there := []string{"10.0.0.0/8", "10.1.2.0/24", "193.160.0.0/11", "2001:db8::/32", "::/0"}
 	x, m := filled(t, there...), newModel()
 	for k, s := range there {
-		m.put(parse(t, s), k)
+		m.put(written.Prefix(s), k)
 	}
 	kept := maps.Clone(m.there)
 	for _, p := range samples() {
