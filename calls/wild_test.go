@@ -3,6 +3,7 @@ package calls
 import (
 	"bytes"
 	"math"
+	"slices"
 	"strings"
 	"testing"
 
@@ -284,25 +285,42 @@ func TestLeafgen(t *testing.T) {
 	}
 }
 
+// pieceLists are of all prefixes, forwards and backwards, with hops of any kind, and of each prefix with what stands beside it.
+func pieceLists() [][]cover.Piece {
+	var all []cover.Piece
+	for _, x := range routes() {
+		all = append(all, cover.Piece{P: x.P, Hop: x.Hop, Routed: x.Hop > 0}, cover.Piece{P: x.P})
+	}
+	back := slices.Clone(all)
+	slices.Reverse(back)
+	l := [][]cover.Piece{nil, {}, all, back}
+	for _, x := range all {
+		beside := cover.Piece{P: x.P, Hop: x.Hop, Routed: x.Routed}
+		beside.P.A.Hi ^= 1 << 63
+		l = append(l, []cover.Piece{x}, []cover.Piece{x, x}, []cover.Piece{x, beside}, []cover.Piece{beside, x, beside})
+	}
+	return l
+}
+
 func TestCover(t *testing.T) {
 	for _, r := range ribs() {
-		for _, x := range routes() {
-			cover.Count(r, x.P)
-		}
 		for _, p := range prefixes() {
+			cover.Count(r, p)
 			for _, n := range ints {
 				cover.Pieces(r, p, n)
 			}
 		}
+		for i, p := range prefixes() { // while less and less is there
+			r.Withdraw(p)
+			cover.Count(r, api.Prefix{A: api.Addr{V6: p.A.V6}})
+			cover.Pieces(r, api.Prefix{A: api.Addr{V6: p.A.V6}}, ints[i%len(ints)])
+		}
 	}
-	var l []cover.Piece
-	for _, x := range routes() {
-		l = append(l, cover.Piece{P: x.P, Hop: x.Hop, Routed: x.Hop > 0})
-	}
-	for _, l := range [][]cover.Piece{nil, l} {
+	for _, l := range pieceLists() {
 		cover.Squeeze(l)
 		for _, a := range addrs {
 			cover.At(l, a)
+			cover.At(cover.Squeeze(l), a)
 		}
 	}
 }

@@ -137,23 +137,13 @@ func TestBlockAtEachLength(t *testing.T) {
 				t.Errorf("with one of %d digits: Block(%v) = %v", n, a, p)
 			}
 			for k := range onpaper.Width(v6) {
-				b, long := flip(a, k), min(k+1, n)
+				b, long := onpaper.Flip(a, k), min(k+1, n)
 				if p := Block(r, b); p != onpaper.Cut(b.Hi, b.Lo, long, v6) {
 					t.Errorf("with one of %d digits: Block of one that leaves it at %d has %d digits", n, k, p.N)
 				}
 			}
 		}
 	}
-}
-
-// flip is an address with its k-th digit the other one.
-func flip(a api.Addr, k int) api.Addr {
-	if k < 64 {
-		a.Hi ^= 1 << (63 - k)
-	} else {
-		a.Lo ^= 1 << (127 - k)
-	}
-	return a
 }
 
 func TestWidest(t *testing.T) {
@@ -328,64 +318,6 @@ func TestRibNotMadeByNew(t *testing.T) {
 
 // P7.4
 
-// small is a world of 4 digits at a place of an address, with nothing but 0, or 1, behind them: its addresses, and all their prefixes up to these digits.
-type small struct {
-	hi, lo uint64
-	at     int
-	v6     bool
-}
-
-func smalls() []small {
-	return []small{{0, 0, 0, false}, {0x0A010200 << 32, 0, 28, false}, {0, 0, 0, true}, {0x20010DB800000000, 0, 62, true}, {0x20010DB800000000, 7 << 60, 124, true}}
-}
-
-// address is the k-th one, of 32.
-func (s small) address(k int) api.Addr {
-	a := onpaper.Cut(s.hi, s.lo, s.at, s.v6).A
-	for i := range 4 {
-		if k>>(3-i)&1 == 1 {
-			a = flip(a, s.at+i)
-		}
-	}
-	for i := s.at + 4; k >= 16 && i < onpaper.Width(s.v6); i++ {
-		a = flip(a, i)
-	}
-	return a
-}
-
-func (s small) addresses() []api.Addr {
-	var l []api.Addr
-	for k := range 32 {
-		l = append(l, s.address(k))
-	}
-	return l
-}
-
-// prefixes are those with 1 digit ahead of the world's at the most, and the one of no digits.
-func (s small) prefixes() []api.Prefix {
-	l := []api.Prefix{onpaper.Cut(0, 0, 0, s.v6)}
-	for n := max(s.at-1, 1); n <= s.at+4; n++ {
-		for _, a := range s.addresses() {
-			if p := onpaper.Cut(a.Hi, a.Lo, n, s.v6); !slices.Contains(l, p) {
-				l = append(l, p)
-			}
-		}
-	}
-	return l
-}
-
-// draw is routes of some of them, to few hops.
-func (s small) draw(mix *onpaper.Mixer) []api.Route {
-	var routes []api.Route
-	often := 1 + mix.Below(8)
-	for _, p := range s.prefixes() {
-		if mix.Below(often) == 0 {
-			routes = append(routes, api.Route{P: p, Hop: mix.Below(3)})
-		}
-	}
-	return routes
-}
-
 // told is what an address has.
 type told struct {
 	a           api.Addr
@@ -409,14 +341,14 @@ func tell(t *testing.T, r *rib.Rib, addrs []api.Addr) []told {
 
 func TestWhatFollows(t *testing.T) {
 	mix := onpaper.Mixer(7)
-	for _, s := range smalls() {
+	for _, s := range onpaper.Worlds() {
 		for range 20 {
-			r, m := filled(t, s.draw(&mix)...)
-			l := tell(t, r, s.addresses())
+			r, m := filled(t, s.Routes(&mix)...)
+			l := tell(t, r, s.Addrs())
 			for _, x := range l {
 				wantLeaf(t, r, l, x)
 			}
-			for _, p := range s.prefixes() {
+			for _, p := range s.Prefixes() {
 				for hop := range 4 {
 					wantGood(t, r, m, l, api.Route{P: p, Hop: hop})
 				}

@@ -77,3 +77,20 @@ func (r Routes) Leaf(a api.Addr) (api.Route, bool) {
 	}
 	return api.Route{P: p, Hop: x.Hop}, true
 }
+
+// Blocks are a prefix's, in order, none of which has a route inside. Each but the prefix itself is a route inside of it, or leaves one at its last digit; those of them that are the widest of their first address are told.
+func (r Routes) Blocks(p api.Prefix) []api.Prefix {
+	if !MayBe(p) {
+		return nil
+	}
+	maybe := []api.Prefix{p}
+	for _, x := range r.Those(func(q api.Prefix) bool { return Covers(p, q) }) {
+		maybe = append(maybe, x.P)
+		for n := p.N; n < x.P.N; n++ {
+			a := Flip(x.P.A, n)
+			maybe = append(maybe, Cut(a.Hi, a.Lo, n+1, a.V6))
+		}
+	}
+	slices.SortFunc(maybe, Compare)
+	return slices.DeleteFunc(slices.Compact(maybe), func(q api.Prefix) bool { return r.Widest(q.A, p.N) != q })
+}

@@ -1,6 +1,7 @@
 package onpaper
 
 import (
+	"slices"
 	"testing"
 
 	"kedge/api"
@@ -38,5 +39,31 @@ func TestRoutes(t *testing.T) {
 	}
 	if x, ok := (Routes{}).Leaf(api.Addr{}); ok || x != (api.Route{}) {
 		t.Error(x, ok)
+	}
+}
+
+// With 10.1.0.0/16 inside, and 10.1.0.0/17 in that.
+func TestBlocks(t *testing.T) {
+	ten, in := Cut(0x0A010000<<32, 0, 16, false), Cut(0x0A010000<<32, 0, 17, false)
+	r := Routes{{}: 1, ten: 2, in: 3, {A: api.Addr{V6: true}}: 3}
+	want := []api.Prefix{
+		Cut(0x0A000000<<32, 0, 16, false), in, Cut(0x0A018000<<32, 0, 17, false),
+		Cut(0x0A020000<<32, 0, 15, false), Cut(0x0A040000<<32, 0, 14, false),
+	}
+	if l := r.Blocks(Cut(0x0A000000<<32, 0, 13, false)); !slices.Equal(l, want) {
+		t.Error(l)
+	}
+	if l := r.Blocks(api.Prefix{}); len(l) != 18 { // one more than there are digits
+		t.Error(l)
+	}
+	for _, p := range []api.Prefix{in, want[0], {A: api.Addr{V6: true}}, {A: api.Addr{V6: true}, N: 128}} {
+		if l := r.Blocks(p); !slices.Equal(l, []api.Prefix{p}) {
+			t.Errorf("Blocks(%v) = %v", p, l)
+		}
+	}
+	for _, p := range Wrong() {
+		if l := r.Blocks(p); len(l) != 0 {
+			t.Errorf("Blocks(%v) = %v", p, l)
+		}
 	}
 }
