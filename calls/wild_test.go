@@ -325,23 +325,50 @@ func TestCover(t *testing.T) {
 	}
 }
 
-func TestSlots(t *testing.T) {
-	l := []*slots.Slots[int]{nil, new(slots.Slots[int])}
+// wildSlots are of a type of any kind: its constraint is any.
+func wildSlots[T any](things ...T) {
+	l := []*slots.Slots[T]{nil, new(slots.Slots[T])}
 	for _, n := range ints {
-		l = append(l, slots.New[int](n))
+		l = append(l, slots.New[T](n))
 	}
 	for _, s := range l {
-		for _, i := range ints {
-			s.Take(i)
-			s.At(i)
-			s.Swap(i, i)
-			s.Give(i)
-			s.Give(i)
+		for range 2 { // the second time there is what was left
+			for k, i := range ints {
+				x := things[k%len(things)]
+				s.Take(x)
+				s.At(i)
+				s.Swap(i, x)
+				s.Give(i)
+				s.Give(i)
+				s.At(i)
+				s.Swap(i, x)
+			}
+			for range api.MaxSlots + 1 { // until all have a thing
+				s.Take(things[0])
+			}
+			s.Used()
+			for i := range s.Cap() + 1 {
+				s.Swap(s.Cap()-i, things[0])
+				s.Give(s.Cap() - i)
+				s.Give(i)
+			}
+			s.Used()
+			s.Len()
 		}
-		s.Used()
-		s.Len()
-		s.Cap()
 	}
+}
+
+func TestSlots(t *testing.T) {
+	wildSlots(ints...)
+	wildSlots("", "a")
+	wildSlots(struct{}{})
+	wildSlots[any](nil, []int{1}, map[string]int{}, math.NaN())
+	wildSlots(nil, func() { panic("what is kept is not called") })
+	wildSlots(nil, new(int))
+	wildSlots(nil, []byte{1})
+	wildSlots(routes()...)
+	wildSlots([4096]byte{})
+	wildSlots(nil, slots.New[int](1))
 }
 
 func TestRecency(t *testing.T) {
