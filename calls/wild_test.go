@@ -377,10 +377,34 @@ func TestRecency(t *testing.T) {
 		l = append(l, recency.New(n))
 	}
 	for _, s := range l {
-		for _, i := range ints {
+		for range 2 { // the second time there is what was left
+			for k, i := range ints {
+				s.Drop(i)
+				s.Touch(i)
+				s.Touch(i)
+				s.Has(i)
+				s.Last()
+				s.Order()
+				s.Drop(ints[len(ints)-1-k])
+				s.Has(i)
+			}
+			for i := range api.MaxSlots + 2 { // until all are there
+				s.Touch(i - 1)
+			}
+			s.Order()
+			s.Len()
+			for i := range api.MaxSlots / 2 { // from both ends
+				s.Drop(i)
+				s.Last()
+				s.Drop(api.MaxSlots - i)
+				s.Touch(i / 2)
+			}
+			s.Order()
+			s.Len()
+		}
+		for range api.MaxSlots + 1 { // until none is there
+			i, _ := s.Last()
 			s.Drop(i)
-			s.Touch(i)
-			s.Has(i)
 		}
 		s.Last()
 		s.Order()
