@@ -414,21 +414,32 @@ func TestRecency(t *testing.T) {
 
 func TestSketch(t *testing.T) {
 	l := []*sketch.Sketch{nil, new(sketch.Sketch)}
-	for _, n := range ints {
+	for _, n := range append([]int{254, 255, 256, 257}, ints...) {
 		l = append(l, sketch.New(n, 3), sketch.New(3, n), sketch.New(n, n))
-	}
-	for _, s := range l {
-		for _, p := range prefixes() {
-			s.Add(p)
-			s.Count(p)
-		}
-		s.Decay()
-		s.Rows()
-	}
-	for _, n := range ints {
 		for _, p := range prefixes() {
 			sketch.Hash(n, p)
 		}
+	}
+	for _, s := range l {
+		s.Count(api.Prefix{})
+		for range 2 { // the second time there is what was left
+			for _, p := range prefixes() {
+				s.Add(p)
+				s.Count(p)
+			}
+			for range 300 { // until no count is more
+				s.Add(api.Prefix{})
+			}
+			s.Rows()
+			s.Decay()
+			s.Count(api.Prefix{})
+			s.Rows()
+		}
+		for range 9 { // until none is left
+			s.Decay()
+		}
+		s.Count(api.Prefix{})
+		s.Rows()
 	}
 }
 

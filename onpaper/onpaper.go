@@ -5,6 +5,7 @@ import (
 	"bytes"
 	"cmp"
 	"math"
+	"strconv"
 
 	"kedge/api"
 )
@@ -73,6 +74,22 @@ func Compare(p, q api.Prefix) int {
 	}
 	l, m := line(p.A), line(q.A)
 	return cmp.Or(bytes.Compare(l[:], m[:]), cmp.Compare(p.N, q.N))
+}
+
+// Laid is wire.Put behind no bytes, digit by digit.
+func Laid(p api.Prefix) []byte {
+	if !MayBe(p) {
+		return nil
+	}
+	b := []byte{4, byte(p.N)}
+	if p.A.V6 {
+		b[0] = 6
+	}
+	for s := Digits(p.A); (len(b)-2)*8 < p.N; {
+		x, _ := strconv.ParseUint(s[(len(b)-2)*8:(len(b)-1)*8], 2, 8)
+		b = append(b, byte(x))
+	}
+	return b
 }
 
 // Cut is the prefix of the first n digits of these words; n is 0 to the width.

@@ -1,6 +1,7 @@
 package onpaper
 
 import (
+	"bytes"
 	"fmt"
 	"math"
 	"testing"
@@ -28,6 +29,30 @@ func TestWrong(t *testing.T) {
 	for _, p := range Wrong() {
 		if MayBe(p) || Covers(p, p) || Contains(p, p.A) || Covers(api.Prefix{A: api.Addr{V6: p.A.V6}}, p) {
 			t.Errorf("%v may be", p)
+		}
+	}
+}
+
+func TestLaid(t *testing.T) {
+	for _, c := range []struct {
+		p    api.Prefix
+		want []byte
+	}{
+		{api.Prefix{}, []byte{4, 0}},
+		{api.Prefix{A: api.Addr{V6: true}}, []byte{6, 0}},
+		{Cut(0x0A810203<<32, 0, 8, false), []byte{4, 8, 10}},
+		{Cut(0x0A810203<<32, 0, 9, false), []byte{4, 9, 10, 128}},
+		{Cut(0x0A810203<<32, 0, 32, false), []byte{4, 32, 10, 129, 2, 3}},
+		{Cut(0x20010DB800000000, 1, 64, true), []byte{6, 64, 0x20, 1, 0x0D, 0xB8, 0, 0, 0, 0}},
+		{Cut(0x20010DB800000000, 1, 128, true), []byte{6, 128, 0x20, 1, 0x0D, 0xB8, 0, 0, 0, 0, 0, 0, 0, 0, 0, 0, 0, 1}},
+	} {
+		if got := Laid(c.p); !bytes.Equal(got, c.want) {
+			t.Errorf("Laid(%v) = %v, not %v", c.p, got, c.want)
+		}
+	}
+	for _, p := range Wrong() {
+		if got := Laid(p); len(got) != 0 {
+			t.Errorf("Laid(%v) = %v", p, got)
 		}
 	}
 }

@@ -17,25 +17,9 @@ import (
 
 const all = math.MaxUint64
 
-// laid are the bytes of a prefix, digit by digit; none of one that may not be.
-func laid(p api.Prefix) []byte {
-	if !onpaper.MayBe(p) {
-		return nil
-	}
-	b := []byte{4, byte(p.N)}
-	if p.A.V6 {
-		b[0] = 6
-	}
-	for s := onpaper.Digits(p.A); (len(b)-2)*8 < p.N; {
-		x, _ := strconv.ParseUint(s[(len(b)-2)*8:(len(b)-1)*8], 2, 8)
-		b = append(b, byte(x))
-	}
-	return b
-}
-
 // laidRoute are the bytes of a route; none of one that may not be.
 func laidRoute(r api.Route) []byte {
-	b := laid(r.P)
+	b := onpaper.Laid(r.P)
 	if b == nil || r.Hop < 0 || r.Hop > 65535 {
 		return nil
 	}
@@ -193,7 +177,7 @@ func TestPut(t *testing.T) {
 func TestPutBehindBytes(t *testing.T) {
 	for _, b := range heads() {
 		for _, p := range append(saneSamples(), onpaper.Wrong()...) {
-			want := append(slices.Clone(b), laid(p)...)
+			want := append(slices.Clone(b), onpaper.Laid(p)...)
 			if got := Put(b, p); !bytes.Equal(got, want) {
 				t.Fatalf("Put(%v, %v) = %v, not %v", b, p, got, want)
 			}
@@ -267,7 +251,7 @@ func TestLengthAboveWidth(t *testing.T) {
 
 func TestBytesMissing(t *testing.T) {
 	for _, p := range saneSamples() {
-		b := laid(p)
+		b := onpaper.Laid(p)
 		for n := range b {
 			wantError(t, b[:n], api.ErrShort)
 		}
@@ -285,7 +269,7 @@ func TestDigitsBehind(t *testing.T) {
 	wantError(t, []byte{6, 1, 1}, api.ErrBadPrefix)
 	for _, v6 := range []bool{false, true} {
 		for n := 0; n <= onpaper.Width(v6); n++ {
-			b := laid(onpaper.Cut(mixedHi, mixedLo, n, v6))
+			b := onpaper.Laid(onpaper.Cut(mixedHi, mixedLo, n, v6))
 			for place := n; place < (len(b)-2)*8; place++ {
 				wrong := slices.Clone(b)
 				wrong[2+place/8] |= 128 >> (place % 8)
@@ -392,7 +376,7 @@ func TestGetRoute(t *testing.T) {
 
 func TestHopMissing(t *testing.T) {
 	for _, p := range saneSamples() {
-		b := laid(p)
+		b := onpaper.Laid(p)
 		wantRoute(t, b, api.Route{}, 0, api.ErrShort)
 		wantRoute(t, append(slices.Clone(b), 255), api.Route{}, 0, api.ErrShort)
 		wantRoute(t, append(slices.Clone(b), 255, 254), api.Route{P: p, Hop: 65534}, len(b)+2, api.OK)
@@ -649,7 +633,7 @@ func TestLongLists(t *testing.T) {
 // FuzzGet: bytes of any kind, against the chapter's reading of them.
 func FuzzGet(f *testing.F) {
 	for _, p := range saneSamples()[:40] {
-		f.Add(append(laid(p), 1, 2))
+		f.Add(append(onpaper.Laid(p), 1, 2))
 	}
 	f.Fuzz(func(t *testing.T, b []byte) {
 		b = b[:min(len(b), 1000)]
