@@ -443,13 +443,22 @@ func TestSketch(t *testing.T) {
 	}
 }
 
-func TestVictim(t *testing.T) {
-	var l []victim.Entry
+// entryLists are of no entries, of one and of many, of Scores that are alike, that rise, that fall and of any kind.
+func entryLists() [][]victim.Entry {
+	l := [][]victim.Entry{nil, {}, {{}}, make([]victim.Entry, 0, 3)}
+	var any, rising, falling []victim.Entry
 	for i, n := range ints {
-		l = append(l, victim.Entry{I: n, Score: ints[len(ints)-1-i]}, victim.Entry{I: n})
+		l = append(l, []victim.Entry{{I: n, Score: n}}, []victim.Entry{{I: n}, {Score: n}, {I: n, Score: n}})
+		any = append(any, victim.Entry{I: n, Score: ints[i*5%len(ints)]}, victim.Entry{I: n})
+		rising = append(rising, victim.Entry{I: i, Score: n})
+		falling = append(falling, victim.Entry{I: -i, Score: ints[len(ints)-1-i]})
 	}
+	return append(l, any, any[:7], rising, falling, slices.Repeat(any, 100), make([]victim.Entry, api.MaxSlots+1))
+}
+
+func TestVictim(t *testing.T) {
 	for _, policy := range ints {
-		for _, l := range [][]victim.Entry{nil, l[:1], l} {
+		for _, l := range entryLists() {
 			victim.Choose(policy, l)
 			victim.Rank(policy, l)
 		}
