@@ -465,24 +465,43 @@ func TestVictim(t *testing.T) {
 	}
 }
 
-func TestTable(t *testing.T) {
+func tables() []*table.Table {
 	l := []*table.Table{nil, new(table.Table)}
 	for _, n := range ints {
-		l = append(l, table.New(n, 0), table.New(4, n), table.New(n, 1))
+		l = append(l, table.New(n, 0), table.New(n, 1), table.New(4, n), table.New(n, n))
 	}
-	for _, x := range l {
-		for i, r := range routes() {
-			x.Install(r, i%2 == 0)
-			x.Find(r.P.A)
-			x.Hit(r.P.A)
-		}
-		x.Tick()
-		x.All()
-		x.Order()
-		x.Size()
-		for _, p := range prefixes() {
-			x.Evict(p)
-			x.Flush(p)
+	return l
+}
+
+func TestTable(t *testing.T) {
+	for _, x := range tables() {
+		for range 2 { // the second time there is what was counted
+			for i, r := range routes() {
+				x.Install(r, i%2 == 0)
+				x.Install(r, i%3 == 0)
+				x.Find(r.P.A)
+				x.Hit(r.P.A)
+				x.Hit(addrs[i%len(addrs)])
+			}
+			x.Tick()
+			x.All()
+			x.Order()
+			x.Size()
+			x.Flush(api.Prefix{})
+			for i := range api.MaxSlots + 2 { // until no place is free
+				x.Install(api.Route{P: api.Prefix{A: api.Addr{Hi: uint64(i) << 53}, N: 12}, Hop: i}, false)
+			}
+			for i, p := range prefixes() { // while less and less is there
+				x.Evict(p)
+				x.Evict(p)
+				x.Find(addrs[i%len(addrs)])
+				x.Flush(p)
+				x.Flush(p)
+				x.Hit(p.A)
+			}
+			x.All()
+			x.Order()
+			x.Size()
 		}
 	}
 }
